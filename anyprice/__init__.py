@@ -1,0 +1,1 @@
+"""Anyprice: planners at all prices, under all budgets, in all surroundings."""

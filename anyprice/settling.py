@@ -1,0 +1,95 @@
+"""Fronts, ring by ring: of what rules make of amounts of their parts, the least."""
+
+from heapq import heappop, heappush
+
+from anyprice.lookups import leads_of, rings_of, rules_by_head
+from anyprice.makes import spread
+from anyprice.unders import is_at_most, least_of
+
+
+def fronts_of(program, things):
+    """The dict from the things, and all that they come to by parts, to their fronts."""
+    rules = rules_by_head(program)
+    fronts = {}
+    for ring in rings_of(leads_of(rules), things):
+        settled = ring_fronts(ring, rules, fronts)
+        for thing in ring:
+            fronts[thing] = settled[thing]
+    return fronts
+
+
+def ring_fronts(ring, rules, fronts):
+    """The fronts of things that lead to one another, those of all other things that they lead to being told.
+
+    Of all that waits the least amount, as rows compare, is taken again and again. What rules make is at least each
+    amount that they make it of, so it is never less as rows compare: nothing that comes later can be under what was
+    taken, and nothing is made of amounts that are not in the fronts.
+    """
+    settled = {thing: [] for thing in ring}
+    waiting, uses = begun(ring, rules, fronts)
+    while waiting:
+        amount, thing = heappop(waiting)
+        if not has_at_most(settled[thing], amount):
+            settled[thing].append(amount)
+            for use in uses[thing]:
+                for row in made_anew(use, thing, amount, settled):
+                    heappush(waiting, (row, use[0]))
+    return settled
+
+
+def begun(ring, rules, fronts):
+    """What waits at first, as it is made without the ring; and for each thing of the ring its uses.
+
+    A use is (head, how, rows that are made without the ring, parts that are in it).
+    """
+    waiting = []
+    uses = {thing: [] for thing in ring}
+    for head in ring:
+        first = []
+        for rule in sorted([pair[1] for pair in rules[head]], key=how_many_parts):
+            inner = [part for part in rule[1] if part[0] in uses]
+            rows = made_without(rule, uses, fronts, first)
+            if not inner:
+                first = least_of(first + rows)
+            elif rows:
+                for thing in sorted({part[0] for part in inner}):
+                    uses[thing].append((head, rule[3], rows, inner))
+        for row in first:
+            heappush(waiting, (row, head))
+    return waiting, uses
+
+
+def how_many_parts(rule):
+    """Rules with fewer parts come first, as what they make can spare much of what others do."""
+    return len(rule[1])
+
+
+def made_without(rule, left_out, fronts, known):
+    """What a rule makes of the fronts of those parts that are not left out, but for what is known."""
+    rows = [rule[2]]
+    for part in rule[1]:
+        if part[0] not in left_out:
+            rows = spread(rule[3], rows, part, fronts[part[0]], known)
+    return rows
+
+
+def made_anew(use, thing, amount, settled):
+    """What a use makes with a new amount in the place of a part, and all settled ones in those of the others."""
+    head, how, rows, inner = use
+    found = []
+    for place, part in enumerate(inner):
+        if part[0] == thing:
+            fresh = spread(how, rows, part, [amount], settled[head])
+            for other, further in enumerate(inner):
+                if other != place:
+                    fresh = spread(how, fresh, further, settled[further[0]], settled[head])
+            found.extend(fresh)
+    return found
+
+
+def has_at_most(amounts, limit):
+    """Whether some amount is at most the limit."""
+    for amount in amounts:
+        if is_at_most(amount, limit):
+            return True
+    return False

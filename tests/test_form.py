@@ -1,0 +1,176 @@
+"""The interface as the document lists it, and the plainest rules of the language for the files of the package."""
+
+import ast
+import builtins
+import importlib
+import inspect
+import pathlib
+import unittest
+
+PACKAGE = pathlib.Path(__file__).resolve().parent.parent / "anyprice"
+
+INTERFACE = {
+    "rows": {"least_rows": "amounts", "cost": "amount, prices"},
+    "mixes": {"is_mix": "thing", "mix_sum": "mix", "is_mix_for": "target, others, thing, less=False",
+              "mix_for": "target, others, less=False"},
+    "pieces": {"corners_where": "many, cuts", "inside": "corners", "is_in_piece": "corners, prices"},
+    "programs": {"is_rule": "sorts, thing", "Program": "sorts, rules", "made_of": "program, number, amounts"},
+    "plans": {"is_plan": "program, thing", "plan_thing": "program, plan", "plan_amount": "program, plan",
+              "done_of": "program, plan", "stood_of": "program, plan", "is_straight": "program, plan",
+              "straightened": "program, plan", "grafted": "program, plan, row, other"},
+    "heights": {"heights": "program", "how_many": "program, thing, most"},
+    "handed": {"front_rules": "program, thing, name"},
+    "fronts": {"front": "program, thing", "all_fronts": "program", "is_table": "program, thing"},
+}
+METHODS = {
+    ("programs", "Program"): {"own_sorts": "", "all_rules": "", "things": "", "with_rule": "number, rule",
+                              "without_rule": "number", "with_own": "number, own", "__eq__": "other", "__len__": ""},
+}
+
+LIBRARY = {
+    "heapq": "heappush heappop heapify heapreplace heappushpop".split(),
+    "math": "gcd lcm isqrt comb perm factorial".split(),
+    "itertools": "product combinations permutations chain accumulate pairwise islice zip_longest".split(),
+    "collections": ["defaultdict"],
+}
+BUILTINS = """len range enumerate zip min max sum abs sorted reversed int str bool bytes list tuple dict set frozenset
+isinstance ord repr any all divmod pow getattr hasattr setattr iter next map Exception ValueError TypeError KeyError
+IndexError LookupError ZeroDivisionError ArithmeticError OverflowError RuntimeError NotImplementedError AttributeError
+StopIteration NotImplemented""".split()
+BUILTIN_METHODS = """append clear copy count endswith extend find get index insert isalnum isalpha isdigit islower isspace
+isupper items join keys ljust lower lstrip partition pop remove replace reverse rfind rjust rpartition rsplit rstrip
+setdefault split splitlines startswith strip update upper values zfill bit_length add discard""".split()
+BARRED_WORDS = """type typing enum Enum Generic Protocol ABC namedtuple register mro elements open input law vars dir
+id compile eval exec exit help globals locals super""".split()
+
+
+def files():
+    return sorted(PACKAGE.glob("**/*.py"))
+
+
+def parsed():
+    return [(path, ast.parse(path.read_text(encoding="ascii"))) for path in files()]
+
+
+def functions_in(tree):
+    return [node for node in ast.walk(tree) if isinstance(node, ast.FunctionDef)]
+
+
+def names_bound(node):
+    """The parameters and local variables of a function."""
+    found = [argument.arg for argument in node.args.args]
+    return found + [inner.id for inner in ast.walk(node)
+                    if isinstance(inner, ast.Name) and isinstance(inner.ctx, ast.Store)]
+
+
+class Interface(unittest.TestCase):
+
+    def check(self, found, file, parameters):
+        self.assertEqual(found.__module__, "anyprice." + file)
+        shown = str(inspect.signature(found)).strip("()")
+        self.assertEqual(shown, parameters)
+
+    def test_functions_and_classes(self):
+        for file, names in INTERFACE.items():
+            module = importlib.import_module("anyprice." + file)
+            for name, parameters in names.items():
+                self.check(getattr(module, name), file, parameters)
+
+    def test_methods_stand_in_the_class_itself(self):
+        for (file, name), methods in METHODS.items():
+            kind = getattr(importlib.import_module("anyprice." + file), name)
+            for method, parameters in methods.items():
+                shown = str(inspect.signature(vars(kind)[method])).strip("()")
+                self.assertEqual(shown, ", ".join(["self"] + ([parameters] if parameters else [])))
+
+
+class Language(unittest.TestCase):
+
+    def test_sizes_and_characters(self):
+        for path, tree in parsed():
+            lines = path.read_text(encoding="ascii").split("\n")
+            self.assertLessEqual(len(lines) - 1, 399, path)
+            self.assertLessEqual(max(len(line) for line in lines), 120, path)
+            self.assertNotIn("\t", "".join(lines))
+            for node in functions_in(tree):
+                self.assertLessEqual(node.end_lineno - node.lineno + 1, 40, f"{path} {node.name}")
+
+    def test_nothing_but_python_files(self):
+        self.assertTrue((PACKAGE / "__init__.py").exists())
+        others = [path for path in PACKAGE.glob("**/*") if path.suffix not in (".py", ".pyc") and path.name != "__pycache__"]
+        self.assertEqual(others, [])
+
+    def test_imports(self):
+        leads = {}
+        for path, tree in parsed():
+            leads[path.stem] = []
+            for node in ast.walk(tree):
+                self.assertNotIsInstance(node, ast.Import, path)
+                if isinstance(node, ast.ImportFrom):
+                    self.check_import(path, tree, node)
+                    leads[path.stem].append(node.module.rpartition(".")[2])
+        order = []
+        while len(order) < len(leads):
+            ready = [name for name in leads if name not in order and all(
+                lead in order or lead in LIBRARY for lead in leads[name])]
+            self.assertTrue(ready, "files import from each other")
+            order.extend(ready)
+
+    def check_import(self, path, tree, node):
+        self.assertIn(node, tree.body, path)
+        self.assertEqual(node.level, 0, path)
+        for alias in node.names:
+            self.assertIsNone(alias.asname, path)
+            if node.module in LIBRARY:
+                self.assertIn(alias.name, LIBRARY[node.module], path)
+            else:
+                self.assertTrue(node.module.startswith("anyprice."), path)
+                module = importlib.import_module(node.module)
+                self.assertEqual(getattr(module, alias.name).__module__, node.module, f"{path} {alias.name}")
+
+    def test_names(self):
+        for path, tree in parsed():
+            imported = [alias.name for node in tree.body if isinstance(node, ast.ImportFrom) for alias in node.names]
+            classes = [node.name for node in tree.body if isinstance(node, ast.ClassDef)]
+            for node in functions_in(tree):
+                for name in names_bound(node):
+                    self.assertNotIn(name, imported + classes + dir(builtins), f"{path} {node.name}")
+            for node in ast.walk(tree):
+                if isinstance(node, ast.Name):
+                    self.assertNotIn(node.id, BARRED_WORDS, path)
+                    if isinstance(node.ctx, ast.Load):
+                        self.assertNotEqual(node.id, "_", path)
+                        self.assertTrue(not hasattr(builtins, node.id) or node.id in BUILTINS, f"{path} {node.id}")
+                if isinstance(node, (ast.FunctionDef, ast.ClassDef)) and not node.name.startswith("__"):
+                    self.assertFalse(hasattr(builtins, node.name), f"{path} {node.name}")
+
+    def test_methods_of_builtin_values(self):
+        own = [node.name for _, tree in parsed() for node in functions_in(tree)]
+        for path, tree in parsed():
+            for node in ast.walk(tree):
+                if isinstance(node, ast.Call) and isinstance(node.func, ast.Attribute):
+                    self.assertIn(node.func.attr, own + BUILTIN_METHODS, path)
+
+    def test_what_is_left_out(self):
+        left_out = (ast.Global, ast.AsyncFunctionDef, ast.Div, ast.Await)
+        for path, tree in parsed():
+            for node in ast.walk(tree):
+                self.assertNotIsInstance(node, left_out, path)
+                if isinstance(node, ast.Constant):
+                    self.assertNotIsInstance(node.value, float, path)
+                    self.assertFalse(isinstance(node.value, str) and "%" in node.value, path)
+                if isinstance(node, ast.Compare) and isinstance(node.ops[0], (ast.Is, ast.IsNot)):
+                    self.assertIn(ast.unparse(node.comparators[0]), ("None", "True", "False"), path)
+
+    def test_lists_where_a_class_compares(self):
+        for path, tree in parsed():
+            for node in ast.walk(tree):
+                if isinstance(node, ast.Call) and isinstance(node.func, ast.Name):
+                    if node.func.id in ("any", "all", "min", "max", "sum", "sorted"):
+                        self.assertFalse(any(isinstance(part, ast.GeneratorExp) for part in node.args), path)
+                if isinstance(node, ast.Call) and isinstance(node.func, ast.Attribute):
+                    self.assertNotEqual(node.func.attr, "sort", path)
+
+
+if __name__ == "__main__":
+    unittest.main()
