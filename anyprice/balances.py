@@ -27,13 +27,13 @@ def gaining_weights(rows, gains):
     profit = list(gains) + [0] * many
     column = first_above(profit)
     while column is not None:
-        place = held_back(lines, based, column)
-        if place is None:
+        held = held_back(lines, based, column)
+        if held is None:
             return weights_told(lines, based, column, len(rows))
-        line = lines[place]
-        lines = [cleared(other, line, column) if at != place else line for at, other in enumerate(lines)]
+        line = lines[held]
+        lines = [cleared(other, line, column) if at != held else line for at, other in enumerate(lines)]
         profit = cleared(profit, line, column)
-        based[place] = column
+        based[held] = column
         column = first_above(profit)
     return []
 
