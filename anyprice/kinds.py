@@ -50,6 +50,11 @@ def is_prices(thing):
     return is_amount(thing) and max(thing) > 0
 
 
+def is_prices_above(thing, many):
+    """Whether it is a row of so many prices, all of them above 0."""
+    return is_list_of(thing, many) and all([is_int_from(number, 1) for number in thing])
+
+
 def is_thing(thing):
     """Whether it is a string that can name what is had."""
     return isinstance(thing, str) and 1 <= len(thing) <= MOST_SIGNS and all([sign in SIGNS for sign in thing])

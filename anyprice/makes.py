@@ -1,6 +1,6 @@
 """What rules make of amounts for their parts, resource by resource; rules and amounts are tuples here."""
 
-from anyprice.unders import least_of
+from anyprice.unders import is_at_most, least_of
 
 
 def raised(part, how, amount):
@@ -27,13 +27,17 @@ def made(rule, amounts):
     return row
 
 
-def spread(how, rows, part, amounts, known):
+def spread(how, rows, part, amounts, known, limit=None):
     """The least of what rows become by a part with each of the amounts, but for what some known row is at most.
 
-    What a rule makes rises with each part, so what is left out here can be changed for something that is as good.
+    What a rule makes rises with each part, so what is left out here can be changed for something that is as good;
+    and what is not at most the limit, if there is one, makes nothing that is.
     """
     ways = [raised(part, how, amount) for amount in amounts]
-    least = least_of([joined(how, row, way) for row in rows for way in ways] + known)
+    fresh = [joined(how, row, way) for row in rows for way in ways]
+    if limit is not None:
+        fresh = [row for row in fresh if is_at_most(row, limit)]
+    least = least_of(fresh + known)
     if not known:
         return least
     skipped = {row: True for row in known}

@@ -62,11 +62,11 @@ def mix_for(target, others, less=False):
     """
     check_mixed(target, others)
     goal = tuple(target)
-    amounts = sorted({tuple(other) for other in others if tuple(other) != goal})
+    amounts = sorted({tuple(other) for other in others if tuple(other) != goal}, reverse=True)
     rises = [mixed(amount, 1, goal, -1) for amount in amounts]
     weights = gaining_weights(rises, [-sum(rise) for rise in rises])
     if not weights and not less:
         weights = gaining_weights(rises, [1] * len(rises))
     if not weights:
         return None
-    return {amounts[index]: weight for index, weight in weights}
+    return {amounts[index]: weight for index, weight in reversed(weights)}

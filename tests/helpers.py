@@ -5,6 +5,7 @@ import inspect
 import itertools
 import random
 import unittest
+from math import gcd, isqrt
 
 from anyprice.programs import Program
 
@@ -36,6 +37,11 @@ NO_AMOUNTS = NO_LISTS + [
 ]
 # Things that are no prices, rim too.
 NO_PRICES = NO_AMOUNTS + [[0], (0, 0), [0, 0, 0]]
+# Things that are no prices above 0, of two resources.
+NO_PAIRS = NO_PRICES + [(0, 1), [1, 0], (5, -1), (1,), [2], (1, 1, 1), [1, True], (True, 1), (1, None), ("1", 1), (1, (1,))]
+# Things that are no kinds.
+NO_KINDS = NO_LISTS + ["price", "prices ", "Prices", "around,", "budget", "front", [], (), ["prices"], ("around",),
+                       [["budgets"]]]
 # Things that are no things of programs.
 NO_NAMES = [None, True, 0, 1, [], ["a"], ("a",), {}, some_function, EXAMPLE, "", "A", "aB", "a b", " a", "a\n", "a_b",
             "a" * 25, "\u00e4", "\u00b2", "\u0661", "a,b", "a:"]
@@ -77,7 +83,8 @@ class Case(unittest.TestCase):
         names = list(inspect.signature(call).parameters)
         by_name = call(**dict(zip(names, passed)))
         turned = call(*swapped(passed))
-        for again in (by_name, turned):
+        of_copies = call(*copy.deepcopy(before))
+        for again in (by_name, turned, of_copies):
             self.assertEqual(again, kept)
             self.assertIs(type(again), type(kept))
             if not isinstance(again, Program):
@@ -162,6 +169,117 @@ def plain_fronts(program):
         fronts = further
 
 
+def plain_corners(many, cuts):
+    """Rows where many - 1 independent limits are met: by 3.4, fact b."""
+    limits = [tuple(cut) for cut in cuts]
+    limits += [tuple(-1 if at == place else 0 for at in range(many)) for place in range(many)]
+    lines = [(1,)] if many == 1 else []
+    if many == 2:
+        lines = [(-limit[1], limit[0]) for limit in limits]
+    if many == 3:
+        lines = [cross(one, other) for one, other in itertools.combinations(limits, 2)]
+    found = set()
+    for line in lines:
+        divisor = gcd(*line)
+        for sign in (1, -1):
+            if divisor:
+                row = tuple(sign * number // divisor for number in line)
+                if all(product(row, limit) <= 0 for limit in limits):
+                    found.add(row)
+    return sorted(found)
+
+
+def lowest(row):
+    divisor = gcd(*row)
+    return tuple(number // divisor for number in row)
+
+
+def plain_piece(amount, amounts):
+    """The ascending corners of the prices, rim too, at which none of the amounts costs less."""
+    cuts = [[one - other for one, other in zip(amount, row)] for row in set(amounts) if row != tuple(amount)]
+    return plain_corners(len(amount), cuts)
+
+
+def plain_standing(amount, amounts):
+    """The pair ("alone", "beside" or "never", prices above 0 that show it or None)."""
+    corners = plain_piece(amount, amounts)
+    middle = [sum(corner[at] for corner in corners) for at in range(len(amount))]
+    if not corners or min(middle) == 0:
+        return "never", None
+    own = product(amount, middle)
+    alone = all(product(other, middle) > own for other in amounts if other != amount)
+    return "alone" if alone else "beside", lowest(middle)
+
+
+def plain_hull(amounts):
+    return sorted(amount for amount in set(amounts) if plain_standing(amount, amounts)[0] == "alone")
+
+
+def parted(sorts, row, word):
+    """What a row has in the resources of one sort."""
+    return tuple(number for sort, number in zip(sorts, row) if sort == word)
+
+
+def plain_level(sorts, amounts, bounds):
+    rows = {parted(sorts, row, "flat") for row in amounts if is_at_most(parted(sorts, row, "high"), bounds)}
+    return plain_hull(rows) if "flat" in sorts else sorted(rows)
+
+
+def plain_view(sorts, amounts):
+    return [row for row in amounts
+            if parted(sorts, row, "flat") in plain_level(sorts, amounts, parted(sorts, row, "high"))]
+
+
+def plain_seen(sorts, amounts, kind):
+    if kind == "prices":
+        return plain_hull(amounts)
+    return plain_view(sorts, amounts) if kind == "around" else amounts
+
+
+def least_at(amounts, prices):
+    """The least cost at prices, None for no amounts."""
+    return min([product(amount, prices) for amount in amounts], default=None)
+
+
+def bare_program(sorts, lists):
+    """A program of rules without parts, that have the amounts of lists; a thing with none is a part alone."""
+    rules = [(thing, [], amount, ["sum"] * len(sorts)) for thing, amounts in lists.items() for amount in amounts]
+    for thing, amounts in lists.items():
+        if not amounts:
+            rules.append((thing, [(thing, 1, [0] * len(sorts))], [0] * len(sorts), ["sum"] * len(sorts)))
+    return Program(sorts, rules)
+
+
+def some_front(chance, many, length, greatest):
+    """A front of amounts at random."""
+    return plain_least(tuple(chance.randint(0, greatest) for _ in range(many)) for _ in range(length))
+
+
+def bowl(chance, many, length, great=10 ** 18):
+    """Amounts of two or three numbers, up to the great one, that lie on a bowl: all of them are alone."""
+    found = set()
+    while len(found) < length:
+        row = [chance.randint(0, 10 ** 9) for _ in range(many)]
+        size = max(1, isqrt(sum(number * number for number in row)))
+        found.add(tuple(great - great * number // size for number in row))
+    return sorted(found)
+
+
+def straight_trees(program, thing, above=()):
+    """All straight plans of a thing as trees."""
+    found = []
+    for number, rule in enumerate(program.all_rules()):
+        if rule[0] == thing and thing not in above:
+            inner = [straight_trees(program, part[0], above + (thing,)) for part in rule[1]]
+            found += [(number, below) for below in itertools.product(*inner)]
+    return found
+
+
+def tree_rules(tree):
+    """The set of the numbers of the rules of a tree."""
+    return {tree[0]}.union(*[tree_rules(inner) for inner in tree[1]])
+
+
 def tree_of(plan, row=-1):
     return (plan[row][0], tuple(tree_of(plan, below) for below in plan[row][1]))
 
@@ -227,6 +345,25 @@ def some_program(chance, things, rules, greatest):
             for _ in range(chance.choice([0, 0, 1, 1, 2, 2, 3, 4]))
         ]
         made.append((chance.choice(names), parts, [chance.randint(0, greatest) for _ in sorts], how))
+    return Program(sorts, made)
+
+
+def rich_program(chance, things, further, greatest, rings=True, words=("times", "sum", "most"), many=None):
+    """A program in which most things are had by rules without parts, some of them also by further rules."""
+    many = many or chance.randint(1, 3)
+    sorts = [chance.choice(["flat", "high"]) for _ in range(many)]
+    names = [f"t{number}" for number in range(things)]
+    heads = [name for name in names for _ in range(chance.choice([0, 1, 1, 2, 3]))]
+    heads += [chance.choice(names[not rings:] or names) for _ in range(further)]
+    made = []
+    for at, head in enumerate(heads):
+        how = [chance.choice([word for word in words if sort == "high" or word != "most"]) for sort in sorts]
+        leads = names if rings else names[:names.index(head)]
+        parts = [
+            (chance.choice(leads), chance.randint(1, 2), [chance.randint(0, 2) if w == "most" else 0 for w in how])
+            for _ in range(chance.randint(1, 2) if at >= len(heads) - further and leads else 0)
+        ]
+        made.append((head, parts, [chance.randint(0, greatest) // (2 if parts else 1) for _ in sorts], how))
     return Program(sorts, made)
 
 

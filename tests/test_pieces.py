@@ -3,34 +3,13 @@
 import unittest
 from fractions import Fraction
 from itertools import combinations, product as all_of
-from math import gcd
 
 from anyprice.errors import BadCorners, BadCuts, BadNumber, BadPrices
 from anyprice.pieces import corners_where, inside, is_in_piece
-from helpers import NO_INTEGERS, NO_LISTS, NO_PRICES, Case, chance_of, cross, product
+from helpers import NO_INTEGERS, NO_LISTS, NO_PRICES, Case, chance_of, cross, plain_corners, product
 
 GREAT = 10 ** 18 - 1
 NO_CUTS = NO_LISTS + [[], [True, 1], [1, None], [1, "1"], [1, [1]], [1], [1, 2, 3], ["1", "2"], [1, 0, 0, 0]]
-
-
-def plain_corners(many, cuts):
-    """Rows where many - 1 independent limits are met: by 3.4, fact b."""
-    limits = [tuple(cut) for cut in cuts]
-    limits += [tuple(-1 if at == place else 0 for at in range(many)) for place in range(many)]
-    lines = [(1,)] if many == 1 else []
-    if many == 2:
-        lines = [(-limit[1], limit[0]) for limit in limits]
-    if many == 3:
-        lines = [cross(one, other) for one, other in combinations(limits, 2)]
-    found = set()
-    for line in lines:
-        divisor = gcd(*line)
-        for sign in (1, -1):
-            if divisor:
-                row = tuple(sign * number // divisor for number in line)
-                if all(product(row, limit) <= 0 for limit in limits):
-                    found.add(row)
-    return sorted(found)
 
 
 def goes_round(corners):
