@@ -12,7 +12,7 @@ def limits_below(rules, fronts, goal):
     most where all that is beside it takes least. Heads come first; in a ring nothing takes more the next time round,
     so there is an end.
     """
-    lows = {thing: tuple([min(column) for column in zip(*fronts[thing])]) for thing in fronts if fronts[thing]}
+    lows = {thing: least_numbers(fronts[thing]) for thing in fronts if fronts[thing]}
     limits = {goal[0]: goal[1]}
     for ring in reversed(rings_of(leads_of(rules), [goal[0]])):
         waiting = [thing for thing in ring if thing in limits]
@@ -27,6 +27,11 @@ def limits_below(rules, fronts, goal):
                         turned[name] = True
             waiting = [thing for thing in ring if thing in turned]
     return limits
+
+
+def least_numbers(amounts):
+    """The row of the least number that some amount has, place by place."""
+    return tuple([min(column) for column in zip(*amounts)])
 
 
 def limits_by(pairs, lows, limit):

@@ -59,7 +59,7 @@ def stretch(rises):
     low, high = (0, 1), (1, 1)
     for first, last in rises:
         if first > 0 and last > 0:
-            return high, low
+            return (1, 1), (0, 1)
         if first > 0 or last > 0:
             crossing = in_lowest_terms((abs(first), abs(first - last)))
             if first > 0 and is_before(low, crossing):

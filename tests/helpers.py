@@ -255,6 +255,12 @@ def some_front(chance, many, length, greatest):
     return plain_least(tuple(chance.randint(0, greatest) for _ in range(many)) for _ in range(length))
 
 
+def flat_front(chance, many, length, greatest):
+    """A front of amounts on one side, or just off it: many of them are in the hull, beside others, or just never."""
+    rows = [[chance.randint(0, greatest) for _ in range(many - 1)] for _ in range(length)]
+    return plain_least((*row, 2 * greatest - sum(row) + chance.randint(0, 2)) for row in rows)
+
+
 def bowl(chance, many, length, great=10 ** 18):
     """Amounts of two or three numbers, up to the great one, that lie on a bowl: all of them are alone."""
     found = set()
