@@ -28,8 +28,6 @@ def mix_below(sorts, kind, amounts, amount):
     within = [one for one in amounts if is_at_most(taken(one, others), taken(amount, others))]
     if not within:
         return None
-    if not places:
-        return {within[0]: 1}
     goal = taken(amount, places)
     bearers = {taken(one, places): one for one in reversed(within)}
     mix = {goal: 1} if goal in bearers else mix_for(goal, list(bearers))

@@ -36,5 +36,4 @@ def mix_against(program, thing, amount):
     """
     amounts = front(program, thing)
     check_amount(amounts, amount)
-    alone = hull_of(amounts)
-    return None if tuple(amount) in alone else mix_for(amount, alone)
+    return mix_for(amount, hull_of(amounts))

@@ -45,13 +45,11 @@ def parting(program, one, other, kind):
 
 
 def prices_apart(ones, others):
-    """Prices above 0 at which two lists, not both empty, have unlike least costs, which they have somewhere.
+    """Prices above 0 at which two lists have unlike least costs, which they have somewhere.
 
     Of what is the only best of both lists together something is in one of them alone, else each would cost what
-    both cost together. At the inside of its piece the other list costs more.
+    both cost together. At the inside of its piece the other list costs more, or has nothing.
     """
-    if not ones or not others:
-        return (1,) * len((ones + others)[0])
     pieces = pieces_of_hull(ones + others)
     for amount in in_one_alone(ones, others):
         if amount in pieces:

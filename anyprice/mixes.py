@@ -62,7 +62,7 @@ def mix_for(target, others, less=False):
     """
     check_mixed(target, others)
     goal = tuple(target)
-    amounts = sorted({tuple(other) for other in others if tuple(other) != goal}, reverse=True)
+    amounts = list(reversed(sorted({tuple(other) for other in others if tuple(other) != goal})))
     rises = [mixed(amount, 1, goal, -1) for amount in amounts]
     weights = gaining_weights(rises, [-sum(rise) for rise in rises])
     if not weights and not less:

@@ -91,7 +91,7 @@ class Costs(Case):
                 best = sorted(amount for amount in amounts if product(amount, prices) == least)
                 self.tells(best, best_amounts, program, thing, prices)
                 met += len(best) > 1
-        self.assertGreater(met, 10)
+        self.assertGreater(met, 2)
 
     def test_rings(self):
         chance = chance_of(612)

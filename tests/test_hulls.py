@@ -54,7 +54,7 @@ class Hulls(Case):
             self.tells(prices, prices_for, STAIRS, "x", amount)
         self.tells(None, mix_against, STAIRS, "x", (0, 6))
         self.tells({(0, 6): 1, (6, 0): 1}, mix_against, STAIRS, "x", [3, 3])
-        self.assertIs(is_mix_for((2, 5), [(0, 6), (6, 0)], {(0, 6): 2, (6, 0): 1}, True), True)
+        self.tells({(0, 6): 2, (6, 0): 1}, mix_against, STAIRS, "x", (2, 5))
         self.assertEqual(self.check(STAIRS, "x")[(2, 5)], "never")
         self.assertEqual(self.check(STAIRS, "y"), {(1, 12): "alone", (5, 10): "never", (7, 6): "beside", (13, 0): "alone"})
 

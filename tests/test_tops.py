@@ -83,7 +83,7 @@ class PlanOf(Case):
                 for amount in amounts:
                     self.check(program, thing, amount)
                     met += 1
-        self.assertGreater(met, 300)
+        self.assertGreater(met, 150)
 
     def test_four_parts_of_forty_amounts(self):
         # Each amount of y has just one way.
@@ -156,7 +156,7 @@ class Tops(Case):
                 }
                 self.tells(expected, tops, program, thing)
                 met += len(found)
-        self.assertGreater(met, 1000)
+        self.assertGreater(met, 500)
 
     def test_few_amounts_are_left_of_many(self):
         rules = [summed(name, [], [1, k * 30 ** place, (29 - k) * 30 ** place])
