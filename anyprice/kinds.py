@@ -55,6 +55,11 @@ def is_prices_above(thing, many):
     return is_list_of(thing, many) and all([is_int_from(number, 1) for number in thing])
 
 
+def is_fraction(thing):
+    """Whether it is a pair of integers, the latter from 1 on."""
+    return is_list_of(thing, 2) and is_int(thing[0]) and is_int_from(thing[1], 1)
+
+
 def is_thing(thing):
     """Whether it is a string that can name what is had."""
     return isinstance(thing, str) and 1 <= len(thing) <= MOST_SIGNS and all([sign in SIGNS for sign in thing])

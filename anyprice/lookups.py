@@ -53,6 +53,20 @@ def finished_all(leads, starts):
     return order
 
 
+def backs_of(leads):
+    """The dict from the things to the lists of those that lead to them."""
+    backs = {thing: [] for thing in leads}
+    for thing in leads:
+        for lead in leads[thing]:
+            backs[lead].append(thing)
+    return backs
+
+
+def coming_to(rules, thing):
+    """The dict of True from the thing and all that come to it by parts, by these rules."""
+    return {name: True for name in finished(backs_of(leads_of(rules)), thing, {})}
+
+
 def rings_of(leads, starts):
     """All that the things come to, themselves too, as lists of things that lead to one another.
 
@@ -60,10 +74,7 @@ def rings_of(leads, starts):
     those of its own ring, so against the leads it comes to these alone; of those that are left it is so again.
     """
     order = finished_all(leads, starts)
-    backs = {thing: [] for thing in order}
-    for thing in order:
-        for lead in leads[thing]:
-            backs[lead].append(thing)
+    backs = backs_of({thing: leads[thing] for thing in order})
     rings = []
     met = {}
     for thing in reversed(order):

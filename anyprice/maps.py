@@ -4,7 +4,8 @@ from anyprice.bests import pieces_of_hull
 from anyprice.errors import BadPrices
 from anyprice.fronts import front
 from anyprice.kinds import is_prices
-from anyprice.products import in_lowest_terms, product_of
+from anyprice.products import product_of
+from anyprice.stretches import is_before, stretch
 from anyprice.unders import checked_amounts
 
 
@@ -44,26 +45,3 @@ def best_along(amounts, begin, end):
             place = len([triple for triple in told if not is_before(low, triple[1])])
             told.insert(place, (amount, low, high))
     return told
-
-
-def is_before(one, other):
-    """Whether a fraction is less than another one."""
-    return one[0] * other[1] < other[0] * one[1]
-
-
-def stretch(rises):
-    """The first and the last t from 0 to 1 at which pairs (first, last) are at most 0, (1 - t) * first + t * last.
-
-    If there is none, or one alone, the first one that is told is not before the last one.
-    """
-    low, high = (0, 1), (1, 1)
-    for first, last in rises:
-        if first > 0 and last > 0:
-            return (1, 1), (0, 1)
-        if first > 0 or last > 0:
-            crossing = in_lowest_terms((abs(first), abs(first - last)))
-            if first > 0 and is_before(low, crossing):
-                low = crossing
-            if last > 0 and is_before(crossing, high):
-                high = crossing
-    return low, high

@@ -64,14 +64,20 @@ def inside(corners):
 
 
 def is_in_piece(corners, prices):
-    """Whether prices are, times some integer, a sum of corners with weights from 0 on.
-
-    Each corner is taken at the scale at which its numbers add up to what those of the prices do. Less the prices
-    it adds up to 0 then, so that a mix of these that is nowhere above 0 is 0 everywhere.
-    """
+    """Whether prices are, times some integer, a sum of corners with weights from 0 on."""
     check_corners(corners)
     if not is_prices(prices) or len(prices) != len(corners[0]):
         raise BadPrices(prices)
+    return len(weights_to(corners, prices)) > 0
+
+
+def weights_to(corners, prices):
+    """Pairs (number of a corner, weight above 0) that add up to a multiple of prices, [] if there are none.
+
+    Each corner is taken at the scale at which its numbers add up to what those of the prices do. Less the prices
+    it adds up to 0 then, so that a mix of these that is nowhere above 0 is 0 everywhere. So the lines depend on one
+    another, and no more corners are told than these have numbers.
+    """
     total = sum(prices)
     rises = [mixed(corner, total, prices, -sum(corner)) for corner in corners]
-    return len(gaining_weights(rises, [1] * len(rises))) > 0
+    return gaining_weights(rises, [1] * len(rises))

@@ -18,6 +18,11 @@ def mixed(one, weight, other, weight_of_other):
     return tuple([number * weight + more * weight_of_other for number, more in zip(one, other)])
 
 
+def grown(row, times):
+    """The row taken so many times."""
+    return tuple([number * times for number in row])
+
+
 def divisor_of(numbers):
     """The greatest integer that divides all numbers, 0 if all are 0."""
     divisor = 0

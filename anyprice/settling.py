@@ -28,6 +28,20 @@ def settled_in(rules, things, limits=None):
     return fronts, order
 
 
+def further_fronts(rules, things, known):
+    """The known fronts, and those by these rules of the things and of all that they come to.
+
+    What is known is known with all that it comes to by parts.
+    """
+    fronts = dict(known)
+    for ring in rings_of(leads_of(rules), [thing for thing in things if thing not in known]):
+        if ring[0] not in known:
+            fresh = settled_ring(ring, rules, fronts, None)
+            for thing in ring:
+                fronts[thing] = [amount for name, amount in fresh if name == thing]
+    return fronts
+
+
 def settled_ring(ring, rules, fronts, limits):
     """The pairs (thing, amount) of things that lead to one another, the fronts of all else that they lead to told.
 

@@ -7,8 +7,13 @@ import random
 import unittest
 from math import gcd, isqrt
 
+from anyprice.bases import Base
+from anyprice.grammars import Grammar
+from anyprice.lives import Live
 from anyprice.programs import Program
 
+# What is compared as its points say, and not by how it is shown.
+OBJECTS = (Program, Live, Grammar, Base)
 HOW = ("times", "most")
 
 # The program of the document's example 5.7.
@@ -87,7 +92,7 @@ class Case(unittest.TestCase):
         for again in (by_name, turned, of_copies):
             self.assertEqual(again, kept)
             self.assertIs(type(again), type(kept))
-            if not isinstance(again, Program):
+            if not isinstance(again, OBJECTS):
                 self.assertEqual(repr(again), repr(kept))
         if isinstance(first, (list, dict)):
             self.assertIsNot(first, by_name)
@@ -102,7 +107,7 @@ class Case(unittest.TestCase):
         """That a call tells just this, of just these kinds."""
         told = self.told(call, *passed)
         self.assertEqual(told, expected)
-        if not isinstance(told, Program):
+        if not isinstance(told, OBJECTS):
             self.assertEqual(repr(told), repr(expected))
 
     def refuses(self, error, name, kept, call, *passed):

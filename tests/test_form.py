@@ -37,10 +37,45 @@ INTERFACE = {
     "dearer": {"paper_for": "program, one, other, kind", "is_paper": "program, one, other, kind, thing",
                "never_dearer": "program, one, other, kind", "dearer_at": "program, one, other, kind"},
     "ratios": {"most_times": "program, one, other"},
+    "exchanges": {"exchanged": "program, number, place, thing", "reached": "program, thing"},
+    "holes": {"holes": "program", "with_uses": "program, names", "filled": "program, rules",
+              "in_units": "program, units", "parting_filling": "program, one, other, names"},
+    "holecosts": {"costs_by_hole": "program, thing, hole, prices", "costs_by_rule": "program, thing, number, prices"},
+    "lives": {"Live": "program"},
+    "idles": {"idle_rules": "program", "lean_rules": "program"},
+    "further": {"least_owns": "program, sketch", "sides_of": "program, sketch, highs", "use_of": "program, rule",
+                "is_needless": "program, rule, kind"},
+    "asking": {"asked_through": "box, many", "box_hull": "box, many", "are_whole": "many, thing",
+               "boxes_part": "one, other, many"},
+    "programboxes": {"box_of": "program, thing", "box_within": "program, thing, bounds"},
+    "choices": {"explaining": "n, choices", "gain": "n, choices", "is_gain": "n, choices, thing",
+                "verdict": "n, choices, taken, others", "could_be": "n, choices, lot", "open_pairs": "n, choices, lot",
+                "next_pair": "n, choices, lot"},
+    "within": {"best_within": "amounts, piece", "weights_for": "amounts, piece, amount",
+               "mix_under": "amounts, piece, amount", "surely_used": "program, thing, piece"},
+    "regrets": {"worst_regret": "amounts, piece, amount", "least_worst": "amounts, piece"},
+    "bulges": {"bulge": "amounts, piece", "is_bulge": "amounts, piece, thing"},
+    "kept": {"kept": "amounts, one, other, share", "apart": "amounts, one, other, share",
+             "are_apart": "amounts, one, other, share, thing"},
+    "grammars": {"Grammar": "sorts, rules, faults"},
+    "parses": {"is_parse": "grammar, name, text, thing", "parse_text": "grammar, parse",
+               "parse_amount": "grammar, parse", "mended": "grammar, parse"},
+    "texts": {"text_front": "grammar, name, text", "parse_with": "grammar, name, text, amount",
+              "text_program": "grammar, name, text"},
+    "bases": {"Base": "tables"},
+    "questions": {"is_question": "base, thing", "rows_of": "base, question, words", "answer_of": "base, question"},
+    "ties": {"tied_columns": "base, question, words", "closed_question": "base, question"},
+    "operators": {"is_operator_tree": "base, question, thing", "tree_set": "base, question, tree",
+                  "tree_order": "base, question, tree", "tree_amount": "base, question, tree"},
 }
 METHODS = {
     ("programs", "Program"): {"own_sorts": "", "all_rules": "", "things": "", "with_rule": "number, rule",
                               "without_rule": "number", "with_own": "number, own", "__eq__": "other", "__len__": ""},
+    ("lives", "Live"): {"program_now": "", "put_rule": "number, rule", "take_rule": "number",
+                        "new_own": "number, own", "front_now": "thing", "last_changes": "", "undo": "", "again": "",
+                        "deeds_done": "", "twin": "", "try_out": "work", "__eq__": "other"},
+    ("grammars", "Grammar"): {"own_sorts": "", "all_rules": "", "own_faults": "", "__eq__": "other"},
+    ("bases", "Base"): {"all_tables": "", "with_row": "name, row", "without_row": "name, number", "__eq__": "other"},
 }
 
 LIBRARY = {
@@ -141,8 +176,17 @@ class Language(unittest.TestCase):
                 self.assertIn(alias.name, LIBRARY[node.module], path)
             else:
                 self.assertTrue(node.module.startswith("anyprice."), path)
-                module = importlib.import_module(node.module)
-                self.assertEqual(getattr(module, alias.name).__module__, node.module, f"{path} {alias.name}")
+                self.assertIn(alias.name, self.defined_in(node.module.rpartition(".")[2]), f"{path} {alias.name}")
+
+    def defined_in(self, file):
+        """The names that a file itself defines."""
+        found = []
+        for node in ast.parse((PACKAGE / (file + ".py")).read_text(encoding="ascii")).body:
+            if isinstance(node, (ast.FunctionDef, ast.ClassDef)):
+                found.append(node.name)
+            if isinstance(node, ast.Assign):
+                found.extend(target.id for target in node.targets)
+        return found
 
     def test_names(self):
         for path, tree in parsed():
@@ -177,6 +221,49 @@ class Language(unittest.TestCase):
                     self.assertFalse(isinstance(node.value, str) and "%" in node.value, path)
                 if isinstance(node, ast.Compare) and isinstance(node.ops[0], (ast.Is, ast.IsNot)):
                     self.assertIn(ast.unparse(node.comparators[0]), ("None", "True", "False"), path)
+
+    def test_stars_in_calls(self):
+        for path, tree in parsed():
+            for node in ast.walk(tree):
+                for part in node.args if isinstance(node, ast.Call) else []:
+                    if isinstance(part, ast.Starred):
+                        self.assertIsInstance(part.value, (ast.Name, ast.Attribute), f"{path} {node.lineno}")
+
+    def test_module_level(self):
+        for path, tree in parsed():
+            for node in tree.body:
+                self.assertIsInstance(
+                    node, (ast.FunctionDef, ast.ClassDef, ast.ImportFrom, ast.Assign, ast.Expr), path)
+                if isinstance(node, ast.Assign):
+                    ast.literal_eval(node.value)
+                if isinstance(node, ast.FunctionDef):
+                    self.assertEqual(node.decorator_list, [], path)
+
+    def test_docstrings(self):
+        for path, tree in parsed():
+            for node in [tree] + tree.body:
+                if isinstance(node, (ast.Module, ast.FunctionDef, ast.ClassDef)):
+                    self.assertTrue(ast.get_docstring(node), path)
+
+    def test_functions_do_not_hide_those_of_their_file(self):
+        for path, tree in parsed():
+            names = [node.name for node in tree.body if isinstance(node, ast.FunctionDef)]
+            for node in functions_in(tree):
+                for name in names_bound(node):
+                    self.assertNotIn(name, names, f"{path} {node.name}")
+
+    def test_sets_are_sorted_measured_or_asked_at_once(self):
+        for path, tree in parsed():
+            allowed = set()
+            for node in ast.walk(tree):
+                if isinstance(node, ast.Call) and isinstance(node.func, ast.Name) and node.func.id in ("sorted", "len"):
+                    for part in node.args[:1]:
+                        allowed.update(id(inner) for inner in ast.walk(part))
+            for node in ast.walk(tree):
+                is_set = isinstance(node, (ast.Set, ast.SetComp))
+                is_set = is_set or isinstance(node, ast.Call) and isinstance(node.func, ast.Name) and node.func.id == "set"
+                if is_set:
+                    self.assertIn(id(node), allowed, f"{path} {node.lineno}")
 
     def test_lists_where_a_class_compares(self):
         for path, tree in parsed():
