@@ -326,9 +326,11 @@ class Needless(Case):
             if max(map(len, plain_fronts(program).values()), default=0) > 12:
                 continue
             sketch = some_sketch(chance, program, program.things() + ["new"])
+            own = tuple(chance.randint(0, 8) for _ in program.own_sorts())
             if at % 2 == 0 and at % 3:
                 sketch = (chance.choice("xy"), [], sketch[2])
-            rule = rule_by(sketch, tuple(chance.randint(0, 8) for _ in program.own_sorts()))
+                own = chance.choice(flat_front(chance, len(own), 6, 3))
+            rule = rule_by(sketch, own)
             answers = []
             for kind in KINDS:
                 answers.append(not changed(program, rule, kind))
