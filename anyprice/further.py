@@ -158,10 +158,7 @@ def cheaper_at(many, rows, made):
 
 
 def is_needless(program, rule, kind):
-    """Whether the rule, put in, changes nothing that is seen of any thing by the kind.
-
-    What does not come to its head has the same front as it had.
-    """
+    """Whether the rule, put in, changes nothing that is seen of any thing by the kind."""
     own = checked_rule(program, rule)
     check_kind(kind)
     sorts = program.own_sorts()
@@ -169,8 +166,7 @@ def is_needless(program, rule, kind):
     rules = rules_by_head(further)
     touched = coming_to(rules, own[0])
     old = fronts_of(program, [thing for thing in program.things() if thing in touched])
-    known = {thing: old[thing] for thing in old if thing not in touched}
-    new = further_fronts(rules, list(touched), known)
+    new = further_fronts(rules, list(touched), {}, old, own[0])
     for name in touched:
         former = old.get(name, [])
         if new[name] != former and seen_of(sorts, new[name], kind) != seen_of(sorts, former, kind):

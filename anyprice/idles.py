@@ -1,46 +1,37 @@
-"""Idle rules: those without which the front of their head is the same."""
+"""Idle rules: those without which the front of their head is the same.
 
-from anyprice.lookups import leads_of, rings_of, rules_by_head
-from anyprice.settling import fronts_of, further_fronts
+Then all fronts are the same, as each use of such a rule can be changed for a plan of its head; and all front amounts
+are still made, one behind another, by the rules that are left.
+"""
+
+from anyprice.lookups import rules_by_head, without_one
+from anyprice.settling import settled_in
+from anyprice.ways import all_ways, ways_without
 
 
 def idle_rules(program):
     """The ascending list of the numbers of the rules that are idle."""
     rules = rules_by_head(program)
+    settled = settled_in(rules, program.things())
+    ways = all_ways(rules, settled)
     heads = [rule[0] for rule in program.all_rules()]
-    fronts = fronts_of(program, heads)
-    return [number for number, head in enumerate(heads) if is_idle(rules, fronts, number, head)]
+    return [
+        number for number, head in enumerate(heads)
+        if ways_without(rules, settled[0], ways, number, head) is not None
+    ]
 
 
 def lean_rules(program):
-    """The ascending list of the numbers of the rules that are left if, from the last one on, idle ones are left out.
-
-    Without an idle rule all fronts are the same.
-    """
+    """The ascending list of the numbers of the rules that are left if, from the last one on, idle ones are left out."""
     rules = rules_by_head(program)
-    heads = [rule[0] for rule in program.all_rules()]
-    fronts = fronts_of(program, heads)
+    settled = settled_in(rules, program.things())
+    ways = all_ways(rules, settled)
     left = []
-    for number in reversed(range(len(heads))):
-        if is_idle(rules, fronts, number, heads[number]):
-            rules = without(rules, number, heads[number])
-        else:
+    for number, rule in reversed(list(enumerate(program.all_rules()))):
+        further = ways_without(rules, settled[0], ways, number, rule[0])
+        if further is None:
             left.append(number)
+        else:
+            ways = further
+            rules = without_one(rules, number, rule[0])
     return list(reversed(left))
-
-
-def without(rules, number, head):
-    """The rules but for the one of this head with this number."""
-    lean = dict(rules)
-    lean[head] = [pair for pair in rules[head] if pair[0] != number]
-    return lean
-
-
-def is_idle(rules, fronts, number, head):
-    """Whether the head has its front without the rule; only what leads back to the head can have another one.
-
-    Of what the head comes to, and what leads back to it, one ring is told last.
-    """
-    ring = rings_of(leads_of(rules), [head])[-1]
-    known = {thing: fronts[thing] for thing in fronts if thing not in ring}
-    return further_fronts(without(rules, number, head), [head], known)[head] == fronts[head]

@@ -8,11 +8,11 @@ class Live:
     """A program that changes.
 
     It goes along a line of stages, from each of which a deed (its name, the head whose rules change) leads to the
-    next one. What lies on the line is never changed in place, so that a twin, and what is put back, can share it.
+    next one. The line is never changed in place, so that a twin, and what is put back, can share it.
     """
 
     def __init__(self, program):
-        self._stages = (Stage(program, {}),)
+        self._stages = (Stage(program, None, None),)
         self._deeds = ()
         self._place = 0
         self._last = None
@@ -40,7 +40,7 @@ class Live:
 
     def _go_to(self, name, program, head):
         """Do a deed: what lay ahead can be done again no more."""
-        further = self._stages[self._place].turned_by(program, head)
+        further = Stage(program, self._stages[self._place], head)
         self._stages = self._stages[:self._place + 1] + (further,)
         self._deeds = self._deeds[:self._place] + ((name, head),)
         self._step_to(self._place + 1)

@@ -17,6 +17,13 @@ def rules_by_head(program):
     return found
 
 
+def without_one(rules, number, head):
+    """The rules by heads but for the one of this head that has this number."""
+    lean = dict(rules)
+    lean[head] = [pair for pair in rules[head] if pair[0] != number]
+    return lean
+
+
 def leads_of(rules):
     """The dict from the things to the lists of the things of parts of their rules."""
     return {thing: [part[0] for pair in rules[thing] for part in pair[1][1]] for thing in rules}

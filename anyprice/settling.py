@@ -28,18 +28,35 @@ def settled_in(rules, things, limits=None):
     return fronts, order
 
 
-def further_fronts(rules, things, known):
+def further_fronts(rules, things, known, former, head, limits=None):
     """The known fronts, and those by these rules of the things and of all that they come to.
 
-    What is known is known with all that it comes to by parts.
+    What is known is known with all that it comes to by parts. Former ones are fronts by rules that are the same but
+    for those of the head: they still hold for a ring without it, if all that it leads to has the fronts that it had.
     """
     fronts = dict(known)
-    for ring in rings_of(leads_of(rules), [thing for thing in things if thing not in known]):
+    leads = leads_of(rules)
+    for ring in rings_of(leads, [thing for thing in things if thing not in known]):
         if ring[0] not in known:
-            fresh = settled_ring(ring, rules, fronts, None)
-            for thing in ring:
-                fronts[thing] = [amount for name, amount in fresh if name == thing]
+            if head in ring or is_turned(ring, leads, fronts, former):
+                fresh = settled_ring(ring, rules, fronts, limits)
+                for thing in ring:
+                    fronts[thing] = [amount for name, amount in fresh if name == thing]
+            else:
+                for thing in ring:
+                    fronts[thing] = former[thing]
     return fronts
+
+
+def is_turned(ring, leads, fronts, former):
+    """Whether some thing of a ring has no former front, or leads to something beside it that has another one now."""
+    for thing in ring:
+        if thing not in former:
+            return True
+        for lead in leads[thing]:
+            if lead not in ring and (lead not in former or fronts[lead] != former[lead]):
+                return True
+    return False
 
 
 def settled_ring(ring, rules, fronts, limits):

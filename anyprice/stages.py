@@ -5,30 +5,24 @@ from anyprice.settling import further_fronts
 
 
 class Stage:
-    """A program, its rules by heads, and its fronts as far as they are known."""
+    """A program, its rules by heads, and its fronts as far as they are known.
 
-    def __init__(self, program, fronts):
+    The stage ahead of it, if there is one, has other rules of one head alone.
+    """
+
+    def __init__(self, program, former, head):
         self.program = program
         self.rules = rules_by_head(program)
-        self.fronts = fronts
+        self.fronts = {}
+        self.former = former
+        self.head = head
 
     def fronts_for(self, things):
         """The fronts that are known, the things' among them."""
         if not all([thing in self.fronts for thing in things]):
-            self.fronts = further_fronts(self.rules, things, self.fronts)
+            former = {} if self.former is None else self.former.fronts
+            self.fronts = further_fronts(self.rules, things, self.fronts, former, self.head)
         return self.fronts
-
-    def turned_by(self, program, head):
-        """The stage of a program that has other rules of this head; what does not come to it has the same fronts."""
-        further = Stage(program, {})
-        touched = further.things_above(head)
-        former = self.things_above(head)
-        further.fronts = {
-            thing: self.fronts[thing]
-            for thing in self.fronts
-            if thing in further.rules and thing not in touched and thing not in former
-        }
-        return further
 
     def things_above(self, head):
         """The dict of True from the head and all that come to it by parts, {} if it is no thing of the program."""

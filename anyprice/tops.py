@@ -2,9 +2,9 @@
 
 from anyprice.checks import check_amount
 from anyprice.limits import limits_below
-from anyprice.lookups import check_thing, leads_of, rings_of, rules_by_head
+from anyprice.lookups import check_thing, rules_by_head, without_one
 from anyprice.makes import joined, raised
-from anyprice.settling import fronts_of, settled_in, settled_ring
+from anyprice.settling import fronts_of, further_fronts, settled_in
 from anyprice.unders import least_of
 from anyprice.ways import plan_to
 
@@ -60,24 +60,7 @@ def sure_rules(program, thing, amount):
 
 
 def is_had_without(rules, fronts, limits, number, goal):
-    """Whether the pair (thing, amount) is had without a rule; with it the fronts within limits are these.
-
-    Only what comes to the rule, by things whose fronts are others without it, is worked out again.
-    """
-    lean = {head: [pair for pair in rules[head] if pair[0] != number] for head in rules}
-    leads = leads_of(lean)
-    anew = dict(fronts)
-    turned = {}
-    for ring in rings_of(leads, [goal[0]]):
-        if any([len(lean[name]) < len(rules[name]) or has_one_of(leads[name], turned) for name in ring]):
-            fresh = settled_ring(ring, lean, anew, limits)
-            for name in ring:
-                anew[name] = [amount for other, amount in fresh if other == name]
-                if anew[name] != fronts[name]:
-                    turned[name] = True
-    return goal[1] in anew[goal[0]]
-
-
-def has_one_of(names, turned):
-    """Whether some name is among those that turned."""
-    return any([name in turned for name in names])
+    """Whether the pair (thing, amount) is had without a rule; with it the fronts within limits are these."""
+    head = [thing for thing in rules if number in [pair[0] for pair in rules[thing]]][0]
+    lean = without_one(rules, number, head)
+    return goal[1] in further_fronts(lean, [goal[0]], {}, fronts, head, limits)[goal[0]]

@@ -1,5 +1,6 @@
 """How front amounts are made: rules, and amounts of their parts, that make just them; plans put together so."""
 
+from anyprice.lookups import without_one
 from anyprice.makes import joined, raised
 from anyprice.unders import is_at_most, least_of
 
@@ -22,19 +23,79 @@ def amounts_for(rule, lists, amount):
     return ways.get(amount, None)
 
 
-def way_to(rules, fronts, places, pair):
-    """The number of a rule that makes the pair (thing, amount) of pairs with lesser places, and the list of these."""
-    thing, amount = pair
-    for number, rule in rules[thing]:
+def way_to(pairs, fronts, known, pair):
+    """The number of a rule of some pairs (number, rule) that makes a pair (thing, amount), and of which known ones.
+
+    None if there is none. The thing is the head of all of the rules.
+    """
+    _, amount = pair
+    for number, rule in pairs:
         names = [part[0] for part in rule[1]]
-        lists = [
-            [one for one in fronts[name] if is_at_most(one, amount) and places[(name, one)] < places[pair]]
-            for name in names
-        ]
+        lists = [[one for one in fronts[name] if is_at_most(one, amount) and (name, one) in known] for name in names]
         chosen = amounts_for(rule, lists, amount)
         if chosen is not None:
             return number, list(zip(names, chosen))
     return None
+
+
+def all_ways(rules, settled):
+    """The dict, each behind those of which it is made, from all pairs to ways: (number of a rule, list of pairs)."""
+    fronts, order = settled
+    ways = {}
+    for pair in order:
+        ways[pair] = way_to(rules[pair[0]], fronts, ways, pair)
+    return ways
+
+
+def ways_without(rules, fronts, ways, number, head):
+    """Such a dict for rules without one of this head, with the same fronts; None if these have others.
+
+    Other ways are needed for those of the head's pairs that the rule makes. If what does without the rule already is
+    enough for them, all that was made of them still is; else ways are sought for all that does not.
+    """
+    lean = without_one(rules, number, head)
+    known, doubted = {}, []
+    for pair, way in ways.items():
+        if way[0] == number or any([one not in known for one in way[1]]):
+            doubted.append(pair)
+        else:
+            known[pair] = way
+    bare = [pair for pair in doubted if ways[pair][0] == number]
+    fresh = {pair: way_to(lean[head], fronts, known, pair) for pair in bare}
+    if any([fresh[pair] is None for pair in bare]):
+        return ways_anew(lean, fronts, known, doubted)
+    for pair in bare:
+        known[pair] = fresh[pair]
+    for pair in doubted:
+        if pair not in fresh:
+            known[pair] = ways[pair]
+    return known
+
+
+def ways_anew(rules, fronts, known, doubted):
+    """The known ways, and further ones for doubted pairs, each behind those of which it is made; None if one has none.
+
+    What a pair is made of has amounts that are at most its own; so least amounts come first, and one without a way
+    ends it, but for those of the same amount, which may be made of one another.
+    """
+    ways = {pair: known[pair] for pair in known}
+    groups = {}
+    for pair in doubted:
+        groups.setdefault(pair[1], []).append(pair)
+    for amount in sorted(groups):
+        waiting = groups[amount]
+        while waiting:
+            left = []
+            for pair in waiting:
+                way = way_to(rules[pair[0]], fronts, ways, pair)
+                if way is None:
+                    left.append(pair)
+                else:
+                    ways[pair] = way
+            if len(left) == len(waiting):
+                return None
+            waiting = left
+    return ways
 
 
 def plan_to(rules, settled, goal):
@@ -44,12 +105,14 @@ def plan_to(rules, settled, goal):
     would be the same; but each pair has only such below itself as stand ahead of it.
     """
     fronts, order = settled
-    places = {pair: place for place, pair in enumerate(order)}
+    ahead = order[:order.index(goal) + 1]
+    known = {pair: True for pair in ahead}
     needed = {goal: True}
     found = []
-    for pair in reversed(order[:places[goal] + 1]):
+    for pair in reversed(ahead):
+        del known[pair]
         if pair in needed:
-            number, below = way_to(rules, fronts, places, pair)
+            number, below = way_to(rules[pair[0]], fronts, known, pair)
             found.append((pair, number, below))
             for one in below:
                 needed[one] = True
