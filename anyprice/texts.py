@@ -53,7 +53,7 @@ def parse_by(meanings, plan):
 def read_rules(grammar, name, text):
     """The ascending pairs (rule of the program, what it means).
 
-    It means ("all", the rest, ""), ("tree", number of a rule, ""), ("some", how many of its parts, "") or
+    It means ("all", the rest, ""), ("tree", number of a rule, ""), ("some", "", "") of a rule's parts, or
     ("leaf", ahead, got).
     """
     sorts = grammar.own_sorts()
@@ -113,7 +113,7 @@ def parts_over(number, right, length, noughts):
     found = []
     for place, part in enumerate(right):
         word, former = f"{number}.{place + 1}", f"{number}.{place}"
-        meaning = ("some", place + 1, "")
+        meaning = ("some", "", "")
         for start, end in stretches_of_text(length):
             if place == 0:
                 found.append((over(word, start, end), [(part_over(part, start, end), noughts)], noughts, meaning))

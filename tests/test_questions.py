@@ -97,8 +97,11 @@ class Questions(Case):
         for bad in NO_LISTS + [[], (), [("a", "a"), ("a", "b")], [("a", "a"), ("b", "c")], [("a", "a"), ("b",)], [("A", "a"), ("b", "b")],
                                [("a", "a", "a"), ("b", "b")], ["aa", "bb"], [("a", "a"), None], [("a", "a"), (1, "b")],
                                [("a", "a"), ("b", 1)], [("a", "a"), ("b", ["b"])], [("a", "a"), (["b"], "b")], [("a", "a")],
-                               [("a", "a"), ("abcdefghi", "b")], {"a": "a", "b": "b"}, [("a", "a"), ("", "b")]]:
+                               [("a", "a"), ("abcdefghi", "b")], {"a": "a", "b": "b"}, [("a", "a"), ("", "b")],
+                               [("a", "b"), ("a", "b")], [("a", "a"), ["a", "a"]], [("a", "b"), ("b", "b"), ("a", "b")]]:
             things.append((bad, joins, picks, shown, by))
+            if bad != [("a", "a")]:
+                things.append((bad, [], [], [AK], None))
         bad_columns = NO_LISTS + [[], (), ("a",), ("a", "k", "k"), ("c", "k"), ("a", "n"), ("k", "a"), ("a", None), (None, "k"),
                                   ("a", ["k"]), (["a"], "k"), "ak", ("a", 1), (True, "k")]
         for bad in bad_columns:
