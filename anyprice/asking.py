@@ -1,16 +1,11 @@
 """Boxes: functions that choose and show no rules, asked until what they tell is whole."""
 
 from anyprice.bests import hull_of, pieces_of_hull
-from anyprice.errors import BadAnswer, BadNumber
-from anyprice.kinds import is_amount_of, is_int, is_list, is_list_of, is_prices
+from anyprice.checks import check_many
+from anyprice.errors import BadAnswer
+from anyprice.kinds import is_amount_of, is_list, is_list_of, is_prices
 from anyprice.likes import prices_apart
 from anyprice.products import in_lowest_terms, product_of
-
-
-def check_many(many):
-    """BadNumber for any object that is no number of resources."""
-    if not is_int(many) or many not in (1, 2, 3):
-        raise BadNumber(many)
 
 
 def asked_through(box, many):

@@ -1,9 +1,15 @@
-"""What several files refuse alike: prices, amounts of fronts, kinds, bounds, words."""
+"""What several files refuse alike: how many resources, prices, amounts of fronts, kinds, bounds, words."""
 
-from anyprice.errors import BadBounds, BadKind, BadPrices, NoAmount, NotTimes
-from anyprice.kinds import is_amount, is_amount_of, is_prices_above
+from anyprice.errors import BadBounds, BadKind, BadNumber, BadPrices, NoAmount, NotTimes
+from anyprice.kinds import is_amount, is_amount_of, is_int, is_prices_above
 
 KINDS = ("prices", "around", "budgets")
+
+
+def check_many(many):
+    """BadNumber for any object that is none of 1, 2, 3."""
+    if not is_int(many) or many not in (1, 2, 3):
+        raise BadNumber(many)
 
 
 def check_prices(program, prices):

@@ -2,7 +2,8 @@
 
 from anyprice.balances import gaining_weights
 from anyprice.bests import middle_of
-from anyprice.errors import BadAmount, BadAmounts, BadNumber
+from anyprice.checks import check_many
+from anyprice.errors import BadAmount, BadAmounts
 from anyprice.kinds import is_amount_of, is_int, is_int_from, is_list, is_list_of
 from anyprice.pieces import corners_where, cut_off
 from anyprice.products import mixed, product_of
@@ -18,8 +19,7 @@ def is_choice(n, thing):
 
 def check_choices(n, choices):
     """BadNumber for n that is none of 1, 2, 3; BadChoice for the first thing that is no choice."""
-    if not is_int(n) or n not in (1, 2, 3):
-        raise BadNumber(n)
+    check_many(n)
     if not is_list(choices):
         raise BadChoice(0)
     for index, choice in enumerate(choices):

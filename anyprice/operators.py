@@ -3,7 +3,7 @@
 Within this file a tree that was looked at is told as (set, order): its words, and the column of its order or None.
 """
 
-from anyprice.kinds import is_list, is_list_of, is_number_below
+from anyprice.kinds import is_list, is_number_below
 from anyprice.questions import asked_of
 from anyprice.refusals import BadTree
 

@@ -1,15 +1,15 @@
 """Pieces of prices: the rows from 0 on that add up to at most 0 with cuts, told by their corners."""
 
 from anyprice.balances import gaining_weights
-from anyprice.errors import BadCorners, BadCuts, BadNumber, BadPrices
-from anyprice.kinds import is_int, is_list, is_prices, is_row
+from anyprice.checks import check_many
+from anyprice.errors import BadCorners, BadCuts, BadPrices
+from anyprice.kinds import is_list, is_prices, is_row
 from anyprice.products import in_lowest_terms, mixed, product_of, sum_of
 
 
 def corners_where(many, cuts):
     """The corners of the piece of cuts, whose rows have many numbers; three or more of them once round."""
-    if not is_int(many) or many not in (1, 2, 3):
-        raise BadNumber(many)
+    check_many(many)
     if not is_list(cuts):
         raise BadCuts(0)
     for index, cut in enumerate(cuts):

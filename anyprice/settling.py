@@ -54,7 +54,7 @@ def is_turned(ring, leads, fronts, former):
         if thing not in former:
             return True
         for lead in leads[thing]:
-            if lead not in ring and (lead not in former or fronts[lead] != former[lead]):
+            if lead not in ring and fronts[lead] != former[lead]:
                 return True
     return False
 
