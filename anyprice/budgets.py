@@ -3,7 +3,7 @@
 from anyprice.checks import check_prices
 from anyprice.errors import BadBudget, BadTaste, PlanError
 from anyprice.fronts import front
-from anyprice.kinds import is_int_from, is_list, is_list_of, is_number_below
+from anyprice.kinds import is_budget, is_list, is_list_of, is_number_below
 from anyprice.lookups import check_thing, rules_by_head
 from anyprice.products import product_of
 from anyprice.programs import Program
@@ -13,9 +13,7 @@ from anyprice.ways import plan_to
 
 def check_budget(program, budget):
     """BadBudget for what is no row with an integer from 0 on, or None, for each resource."""
-    if not is_list_of(budget, len(program.own_sorts())):
-        raise BadBudget(budget)
-    if not all([limit is None or is_int_from(limit, 0) for limit in budget]):
+    if not is_budget(budget, len(program.own_sorts())):
         raise BadBudget(budget)
 
 

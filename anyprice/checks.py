@@ -12,10 +12,15 @@ def check_many(many):
         raise BadNumber(many)
 
 
+def check_prices_of(many, prices):
+    """BadPrices for what is no row of so many prices above 0."""
+    if not is_prices_above(prices, many):
+        raise BadPrices(prices)
+
+
 def check_prices(program, prices):
     """BadPrices for what is no row of prices above 0, one for each resource."""
-    if not is_prices_above(prices, len(program.own_sorts())):
-        raise BadPrices(prices)
+    check_prices_of(len(program.own_sorts()), prices)
 
 
 def check_amount(amounts, amount):

@@ -55,6 +55,11 @@ def is_prices_above(thing, many):
     return is_list_of(thing, many) and all([is_int_from(number, 1) for number in thing])
 
 
+def is_budget(thing, many):
+    """Whether it is a row with an integer from 0 on, or None, for each of so many resources."""
+    return is_list_of(thing, many) and all([limit is None or is_int_from(limit, 0) for limit in thing])
+
+
 def is_fraction(thing):
     """Whether it is a pair of integers, the latter from 1 on."""
     return is_list_of(thing, 2) and is_int(thing[0]) and is_int_from(thing[1], 1)

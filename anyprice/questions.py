@@ -75,7 +75,4 @@ def rows_of(base, question, words):
 
 def answer_of(base, question):
     """The ascending list of what the rows of all sources have in the shown columns."""
-    asked = asked_of(base, question)
-    words = asked.whole_set()
-    places = [asked.place_of(words, column) for column in asked.shown]
-    return sorted([tuple([row[source][place] for source, place in places]) for row in asked.rows(words)])
+    return asked_of(base, question).answer()

@@ -7,13 +7,8 @@ import random
 import unittest
 from math import gcd, isqrt
 
-from anyprice.bases import Base
-from anyprice.grammars import Grammar
-from anyprice.lives import Live
 from anyprice.programs import Program
 
-# What is compared as its points say, and not by how it is shown.
-OBJECTS = (Program, Live, Grammar, Base)
 HOW = ("times", "most")
 
 # The program of the document's example 5.7.
@@ -86,13 +81,13 @@ class Case(unittest.TestCase):
         self.assertEqual(passed, before)
         kept = copy.deepcopy(first)
         names = list(inspect.signature(call).parameters)
-        by_name = call(**dict(zip(names, passed)))
+        by_name = call(**dict(reversed(list(zip(names, passed)))))
         turned = call(*swapped(passed))
         of_copies = call(*copy.deepcopy(before))
         for again in (by_name, turned, of_copies):
             self.assertEqual(again, kept)
             self.assertIs(type(again), type(kept))
-            if not isinstance(again, OBJECTS):
+            if " object at " not in repr(kept):
                 self.assertEqual(repr(again), repr(kept))
         if isinstance(first, (list, dict)):
             self.assertIsNot(first, by_name)
@@ -107,7 +102,7 @@ class Case(unittest.TestCase):
         """That a call tells just this, of just these kinds."""
         told = self.told(call, *passed)
         self.assertEqual(told, expected)
-        if not isinstance(told, OBJECTS):
+        if " object at " not in repr(expected):
             self.assertEqual(repr(told), repr(expected))
 
     def refuses(self, error, name, kept, call, *passed):
