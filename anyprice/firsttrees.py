@@ -39,12 +39,12 @@ def first_tree(machine, told_of, is_wanted):
         if state not in known:
             known[state] = True
             firsts.append((size, tree, state))
-            for fresh in trees_over(firsts):
+            for fresh in trees_with_last(firsts):
                 heappush(waiting, fresh)
     return None
 
 
-def trees_over(firsts):
+def trees_with_last(firsts):
     """The list of (size, tree, number of one part, number of the other) of the last of first trees and all of them."""
     last = len(firsts) - 1
     pairs = [(last, number) for number in range(last + 1)] + [(number, last) for number in range(last)]
@@ -57,16 +57,16 @@ def trees_over(firsts):
 def inner_patterns(machine):
     """The list of the unlike patterns, but for places of registers and of memory, that stand within others."""
     found = {}
-    waiting = [part for row in machine.instructions() for part in sides_of(row[2])]
+    waiting = [part for row in machine.instructions() for part in both_sides(row[2])]
     while waiting:
         pattern = waiting.pop()
         if pattern not in ("reg", "mem") and pattern not in found:
             found[pattern] = True
-            waiting.extend(sides_of(pattern))
+            waiting.extend(both_sides(pattern))
     return list(found)
 
 
-def sides_of(pattern):
+def both_sides(pattern):
     """The two sides of an operation, none of another pattern."""
     return [] if isinstance(pattern, str) or len(pattern) == 2 else [pattern[1], pattern[2]]
 

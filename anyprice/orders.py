@@ -26,7 +26,8 @@ def fewest_registers(machine, rows):
         word, place, pattern, _ = instruction
         leaves = [leaf for leaf, _ in leaves_of(pattern)]
         kept = [at for at, leaf in enumerate(leaves) if leaf == "reg"]
-        order = [at for _, at in sorted([(-needs[reads[at]], at) for at in kept])]
+        ranked = sorted([(-needs[reads[at]], at) for at in kept])
+        order = [pair[1] for pair in ranked]
         least = max(len(kept), 1 if place == "reg" else 0)
         needs.append(max([least] + [needs[reads[at]] + ahead for ahead, at in enumerate(order)]))
         operands = [
@@ -41,8 +42,8 @@ def orders_of(machine, rows):
     """The number of orders in which the rows can stand, each behind those that it reads."""
     reader = checked_reading(machine, rows)
     sizes = []
-    product = 1
+    divisor = 1
     for reads in reader.reads:
         sizes.append(1 + sum([sizes[number] for number in reads if number is not None]))
-        product = product * sizes[-1]
-    return factorial(len(sizes)) // product
+        divisor = divisor * sizes[-1]
+    return factorial(len(sizes)) // divisor
