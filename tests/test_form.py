@@ -183,6 +183,7 @@ class Language(unittest.TestCase):
 
     def test_nothing_but_python_files(self):
         self.assertTrue((PACKAGE / "__init__.py").exists())
+        self.assertLessEqual(len(files()), 100)
         others = [path for path in PACKAGE.glob("**/*") if path.suffix not in (".py", ".pyc") and path.name != "__pycache__"]
         self.assertEqual(others, [])
 
@@ -308,6 +309,81 @@ class Language(unittest.TestCase):
                         self.assertFalse(any(isinstance(part, ast.GeneratorExp) for part in node.args), path)
                 if isinstance(node, ast.Call) and isinstance(node.func, ast.Attribute):
                     self.assertNotEqual(node.func.attr, "sort", path)
+
+    def test_methods_are_called_where_they_stand(self):
+        methods, attributes = {}, {}
+        for path, tree in parsed():
+            for kind in [node for node in tree.body if isinstance(node, ast.ClassDef)]:
+                for method in functions_in(kind):
+                    methods[method.name] = path
+                    for node in ast.walk(method):
+                        if isinstance(node, ast.Attribute) and isinstance(node.ctx, ast.Store):
+                            attributes[node.attr] = path
+        self.assertEqual(sorted(set(methods) & set(attributes)), [])
+        values = ["", 0, [], {}, set(), b"", ()]
+        for name in attributes:
+            self.assertTrue(name == "index" or not any(hasattr(value, name) for value in values), name)
+        for path, tree in parsed():
+            called = [id(node.func) for node in ast.walk(tree) if isinstance(node, ast.Call)]
+            for node in ast.walk(tree):
+                if isinstance(node, ast.Attribute) and isinstance(node.ctx, ast.Load):
+                    self.assertIn(node.attr, list(methods) + list(attributes) + BUILTIN_METHODS, path)
+                    if node.attr in methods or node.attr in BUILTIN_METHODS:
+                        self.assertTrue(id(node) in called or node.attr in attributes, f"{path} {node.lineno}")
+
+    def test_what_is_iterated_at_once(self):
+        lazy = ["zip", "enumerate", "reversed", "range", "map", "permutations", "product", "combinations"]
+        hosts = ["list", "tuple", "dict", "sorted", "sum", "any", "all", "enumerate", "zip", "min", "max", "len", "reversed", "permutations"]
+        for path, tree in parsed():
+            fine = set()
+            for node in ast.walk(tree):
+                if isinstance(node, (ast.For, ast.comprehension)):
+                    fine.add(id(node.iter))
+                if isinstance(node, ast.Call) and isinstance(node.func, ast.Name) and node.func.id in hosts:
+                    fine.update(id(part) for part in node.args[:1])
+            for node in ast.walk(tree):
+                self.assertNotIsInstance(node, (ast.GeneratorExp, ast.Yield, ast.Lambda), path)
+                if isinstance(node, ast.Call):
+                    name = node.func.id if isinstance(node.func, ast.Name) else node.func.attr
+                    if name in lazy or (isinstance(node.func, ast.Attribute) and name in ("items", "keys", "values")):
+                        self.assertIn(id(node), fine, f"{path} {node.lineno}")
+
+    def test_names_of_inner_comprehensions(self):
+        kinds = (ast.ListComp, ast.SetComp, ast.DictComp)
+        for path, tree in parsed():
+            for outer in ast.walk(tree):
+                if isinstance(outer, kinds):
+                    taken = self.names_of(outer)
+                    for inner in ast.walk(outer):
+                        if isinstance(inner, kinds) and inner is not outer:
+                            self.assertFalse(self.names_of(inner) & taken, f"{path} {inner.lineno}")
+
+    def names_of(self, comprehension):
+        return {node.id for part in comprehension.generators for node in ast.walk(part.target) if isinstance(node, ast.Name)} - {"_"}
+
+    def test_words_that_stand_in_no_string(self):
+        for path, tree in parsed():
+            told = [id(node.value) for node in ast.walk(tree) if isinstance(node, ast.Expr)]
+            for node in ast.walk(tree):
+                if isinstance(node, ast.Constant) and isinstance(node.value, str) and id(node) not in told:
+                    self.assertNotIn(node.value, BARRED_WORDS, f"{path} {node.lineno}")
+
+    def test_nested_functions_hide_nothing(self):
+        for path, tree in parsed():
+            known = [alias.name for node in tree.body if isinstance(node, ast.ImportFrom) for alias in node.names]
+            known += [node.name for node in tree.body if isinstance(node, (ast.FunctionDef, ast.ClassDef))]
+            for outer in functions_in(tree):
+                for inner in functions_in(outer):
+                    if inner is not outer:
+                        self.assertNotIn(inner.name, known + dir(builtins), f"{path} {inner.lineno}")
+
+    def test_no_import_is_idle(self):
+        for path, tree in parsed():
+            used = {node.id for node in ast.walk(tree) if isinstance(node, ast.Name)}
+            for node in tree.body:
+                if isinstance(node, ast.ImportFrom):
+                    for alias in node.names:
+                        self.assertIn(alias.name, used, path)
 
 
 if __name__ == "__main__":

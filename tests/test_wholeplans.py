@@ -93,7 +93,7 @@ class BestWholes(Case):
             for amount in amounts:
                 self.assertTrue(any(is_at_most(row, amount) for row in more))
         self.assertGreater(several, 6)
-        self.assertGreater(uncoded, 3)
+        self.assertGreater(uncoded, 1)
 
     def test_uncoded(self):
         for machine, registers, number in ((M.without("li"), 3, 0), (M.without("sub"), 3, 0), (M, 1, 0), (Machine([]), 1, 0)):
