@@ -79,15 +79,11 @@ class BaseLines:
 
 def read_base(text):
     """The base of a text."""
-    taken = BaseLines()
-
-    def read_line(words):
-        return taken.take_line(words)
-
-    many = read_lines(text, read_line)
-    if taken.wanted != "row":
+    taker = BaseLines()
+    many = read_lines(text, taker)
+    if taker.wanted != "row":
         raise BadText(many + 1)
-    return Base(taken.tables)
+    return Base(taker.tables)
 
 
 def as_place(column):
@@ -215,13 +211,9 @@ class TestedLines:
 
 def read_tested(base, text):
     """The pair of a question of the base, as told ones are, and a list of tests."""
-    taken = TestedLines(base)
-
-    def read_line(words):
-        return taken.take_line(words)
-
-    many = read_lines(text, read_line)
-    found = taken.found
+    taker = TestedLines(base)
+    many = read_lines(text, taker)
+    found = taker.found
     if not found["show"]:
         raise BadText(many + 1)
     by = found["by"][0][0] if found["by"] else None

@@ -1,6 +1,7 @@
 """Houses: bases that change, with questions that are watched: their best wholes stay right."""
 
 from anyprice.checks import check_prices_of
+from anyprice.courses import begun_with
 from anyprice.housestages import HouseStage, as_tested
 from anyprice.products import product_of
 from anyprice.refusals import BadWord, NotWatched
@@ -12,21 +13,17 @@ from anyprice.words import is_word
 class House:
     """A base that changes, a machine, a bound on registers, and tested questions that are watched.
 
-    It goes along a line of stages, from each of which a deed leads to the next one. The line is never changed in place,
-    so that a twin, and what is put back, can share it.
+    Deeds lead along a course of stages.
     """
 
     def __init__(self, base, machine, registers):
         check_machine(machine, registers)
         self._machine = machine
         self._registers = registers
-        self._stages = (HouseStage(base, {}, None, None),)
-        self._deeds = ()
-        self._place = 0
-        self._last = None
+        self._course = begun_with(HouseStage(base, {}, None, None))
 
     def _now(self):
-        return self._stages[self._place]
+        return self._course.now()
 
     def _check_watched(self, word):
         if not is_word(word) or word not in self._now().questions:
@@ -63,15 +60,7 @@ class House:
         self._go_to("take_row", HouseStage(now.base.without_row(name, number), now.questions, now, name))
 
     def _go_to(self, name, further):
-        """Do a deed: what lay ahead can be done again no more."""
-        self._stages = self._stages[:self._place + 1] + (further,)
-        self._deeds = self._deeds[:self._place] + (name,)
-        self._step_to(self._place + 1)
-
-    def _step_to(self, place):
-        """Go to the next stage, or to the one before."""
-        self._last = (self._stages[self._place], self._stages[place])
-        self._place = place
+        self._course = self._course.with_deed(name, further)
 
     def base_now(self):
         """The base as it is now."""
@@ -113,9 +102,9 @@ class House:
 
     def last_changes(self):
         """The ascending list of the watched words whose fronts turned by the last deed, undoing or doing again."""
-        if self._last is None:
+        before, behind = self._course.stage_before(), self._now()
+        if before is None:
             return []
-        before, behind = self._last
         return sorted([word for word in behind.questions if self._is_turned(before, behind, word)])
 
     def _is_turned(self, before, behind, word):
@@ -126,38 +115,36 @@ class House:
 
     def undo_last(self):
         """Take back the last deed that is not taken back; its name, None if there is none."""
-        if self._place == 0:
-            return None
-        self._step_to(self._place - 1)
-        return self._deeds[self._place]
+        return self._step_by(-1)
 
     def do_again(self):
         """Do again the deed that was taken back last; its name, None if there is none."""
-        if self._place == len(self._deeds):
+        return self._step_by(1)
+
+    def _step_by(self, step):
+        further = self._course.stepped_by(step)
+        if further is None:
             return None
-        self._step_to(self._place + 1)
-        return self._deeds[self._place - 1]
+        self._course = further
+        return further.last_deed()
 
     def deeds_done(self):
         """How many deeds are done and not taken back."""
-        return self._place
+        return self._course.place
 
     def twin_house(self):
         """Another one that is the same, with what lies back and ahead, and goes on by itself."""
         other = House(self.base_now(), self._machine, self._registers)
-        other._stages = self._stages
-        other._deeds = self._deeds
-        other._place = self._place
-        other._last = self._last
+        other._course = self._course
         return other
 
     def try_out(self, work):
         """What the function returns that gets the house itself; behind it all is as ahead."""
-        stages, deeds, place, last = self._stages, self._deeds, self._place, self._last
+        course = self._course
         try:
             return work(self)
         finally:
-            self._stages, self._deeds, self._place, self._last = stages, deeds, place, last
+            self._course = course
 
     def __eq__(self, other):
         if not isinstance(other, House) or self.base_now() != other.base_now():

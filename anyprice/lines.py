@@ -34,8 +34,8 @@ def numbers_of_words(words):
     return [number_of(word) for word in words]
 
 
-def read_lines(text, read_line):
-    """How many lines a text has, all of which were read, by a function that tells of a list of words whether they fit.
+def read_lines(text, taker):
+    """How many lines a text has, all of which the taker took: its take_line tells of a line's words whether they fit.
 
     BadText with the first line that does not fit, or has no line feed; with 0 for what is no string.
     """
@@ -44,7 +44,7 @@ def read_lines(text, read_line):
     lines = text.split("\n")
     last = lines.pop()
     for index, line in enumerate(lines):
-        if not read_line(line.split(" ")):
+        if not taker.take_line(line.split(" ")):
             raise BadText(index + 1)
     if last != "":
         raise BadText(len(lines) + 1)

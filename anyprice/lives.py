@@ -1,25 +1,19 @@
 """Live programs: they change by deeds that can be taken back and done again, and tell what changed."""
 
+from anyprice.courses import begun_with
 from anyprice.lookups import check_thing
 from anyprice.stages import Stage, changes_between
 
 
 class Live:
-    """A program that changes.
-
-    It goes along a line of stages, from each of which a deed (its name, the head whose rules change) leads to the
-    next one. The line is never changed in place, so that a twin, and what is put back, can share it.
-    """
+    """A program that changes, by deeds that lead along a course of stages."""
 
     def __init__(self, program):
-        self._stages = (Stage(program, None, None),)
-        self._deeds = ()
-        self._place = 0
-        self._last = None
+        self._course = begun_with(Stage(program, None, None))
 
     def program_now(self):
         """The program as it is now."""
-        return self._stages[self._place].program
+        return self._course.now().program
 
     def put_rule(self, number, rule):
         """Put in a rule that gets the number."""
@@ -39,64 +33,54 @@ class Live:
         return self.program_now().all_rules()[number][0]
 
     def _go_to(self, name, program, head):
-        """Do a deed: what lay ahead can be done again no more."""
-        further = Stage(program, self._stages[self._place], head)
-        self._stages = self._stages[:self._place + 1] + (further,)
-        self._deeds = self._deeds[:self._place] + ((name, head),)
-        self._step_to(self._place + 1)
-
-    def _step_to(self, place):
-        """Go to the next stage, or to the one before."""
-        self._last = (self._place, place)
-        self._place = place
+        """Do a deed that changes the rules of a head."""
+        self._course = self._course.with_deed(name, Stage(program, self._course.now(), head))
 
     def front_now(self, thing):
         """The front of the thing as the program is now."""
         check_thing(self.program_now(), thing)
-        return list(self._stages[self._place].fronts_for([thing])[thing])
+        return list(self._course.now().fronts_for([thing])[thing])
 
     def last_changes(self):
         """What went, what came and what turned by the last deed, undoing or doing again."""
-        if self._last is None:
+        before, behind = self._course.stage_before(), self._course.now()
+        if before is None:
             return {"gone": [], "new": [], "turned": []}
-        before, behind = self._last
-        head = self._deeds[min(before, behind)][1]
-        return changes_between(self._stages[before], self._stages[behind], head)
+        later = self._course.stages[max(self._course.place, self._course.came_from)]
+        return changes_between(before, behind, later.head)
 
     def undo(self):
         """Take back the last deed that is not taken back; its name, None if there is none."""
-        if self._place == 0:
-            return None
-        self._step_to(self._place - 1)
-        return self._deeds[self._place][0]
+        return self._step_by(-1)
 
     def again(self):
         """Do again the deed that was taken back last; its name, None if there is none."""
-        if self._place == len(self._deeds):
+        return self._step_by(1)
+
+    def _step_by(self, step):
+        further = self._course.stepped_by(step)
+        if further is None:
             return None
-        self._step_to(self._place + 1)
-        return self._deeds[self._place - 1][0]
+        self._course = further
+        return further.last_deed()
 
     def deeds_done(self):
         """How many deeds are done and not taken back."""
-        return self._place
+        return self._course.place
 
     def twin(self):
         """Another one that is the same, with what lies back and ahead, and goes on by itself."""
         other = Live(self.program_now())
-        other._stages = self._stages
-        other._deeds = self._deeds
-        other._place = self._place
-        other._last = self._last
+        other._course = self._course
         return other
 
     def try_out(self, work):
         """What the function returns that gets this one itself; behind it all is as ahead."""
-        stages, deeds, place, last = self._stages, self._deeds, self._place, self._last
+        course = self._course
         try:
             return work(self)
         finally:
-            self._stages, self._deeds, self._place, self._last = stages, deeds, place, last
+            self._course = course
 
     def __eq__(self, other):
         return isinstance(other, Live) and self.program_now() == other.program_now()

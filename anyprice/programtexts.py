@@ -67,15 +67,11 @@ class ProgramLines:
 
 def read_program(text):
     """The program of a text."""
-    taken = ProgramLines()
-
-    def read_line(words):
-        return taken.take_line(words)
-
-    many = read_lines(text, read_line)
-    if taken.sorts is None:
+    taker = ProgramLines()
+    many = read_lines(text, taker)
+    if taker.sorts is None:
         raise BadText(many + 1)
-    return Program(taken.sorts, taken.rules)
+    return Program(taker.sorts, taker.rules)
 
 
 def write_plan(plan):
@@ -83,24 +79,31 @@ def write_plan(plan):
     return "".join([as_line(["row", number] + list(below)) for number, below in plan])
 
 
-def read_plan(program, text):
-    """The plan of the program that a text writes."""
-    rules = program.all_rules()
-    heads = []
-    rows = []
+class PlanLines:
+    """The lines of a plan's text, read one behind another."""
 
-    def read_line(words):
+    def __init__(self, program):
+        self.rules = program.all_rules()
+        self.heads = []
+        self.steps = []
+
+    def take_line(self, words):
+        """Whether the words are a row that can stand behind those that were taken; it is taken then."""
         numbers = numbers_of_words(words[1:])
         if words[0] != "row" or not numbers:
             return False
         row = (numbers[0], tuple(numbers[1:]))
-        if not is_step(rules, heads, row):
+        if not is_step(self.rules, self.heads, row):
             return False
-        rows.append(row)
-        heads.append(rules[row[0]][0])
+        self.steps.append(row)
+        self.heads.append(self.rules[row[0]][0])
         return True
 
-    many = read_lines(text, read_line)
-    if not is_plan(program, rows):
+
+def read_plan(program, text):
+    """The plan of the program that a text writes."""
+    taker = PlanLines(program)
+    many = read_lines(text, taker)
+    if not is_plan(program, taker.steps):
         raise BadText(many + 1)
-    return rows
+    return taker.steps

@@ -2,6 +2,7 @@
 
 from itertools import combinations
 
+from anyprice.bases import Base
 from anyprice.operators import tree_amount
 from anyprice.questions import rows_of
 from helpers import is_under
@@ -151,7 +152,6 @@ def inner_trees(tree):
 
 def renamed(base, question, words, names, columns):
     """The base and the question with words, tables and columns called otherwise, by dicts."""
-    from anyprice.bases import Base
     tables = {names[name]: ([columns[column] for column in table[0]], table[1], [columns[column] for column in table[2]])
               for name, table in base.all_tables().items()}
     sources, joins, picks, shown, by = question
@@ -185,7 +185,6 @@ OTHER_COLUMNS = {"k": "kk", "m": "aa", "n": "bb"}
 
 def some_big_question(chance, many, joins=3):
     """A base and a question of so many sources, of whose sets none has more than four hundred rows."""
-    from anyprice.bases import Base
     words = ["p", "q", "r", "s"][:many]
     while True:
         tables = {}

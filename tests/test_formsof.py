@@ -4,13 +4,12 @@ import unittest
 from itertools import product as all_of
 
 from anyprice.formsof import form_front, with_modes
-from anyprice.operators import tree_amount
+from anyprice.operators import tree_amount, tree_set
 from anyprice.questions import rows_of
-from anyprice.operators import tree_set
 from anyprice.refusals import BadQuestion, BadTree
 from helpers import NO_LISTS, Case, chance_of, plain_least
 from operatorways import (OTHER_COLUMNS, OTHER_NAMES, OTHER_WORDS, inner_trees, renamed, renamed_tree, some_big_question)
-from test_operators import A, B, KINDS, MODES, SORTED_A, SORTED_B, some_trees
+from test_operators import A, B, KINDS, MODES, SORTED_A, SORTED_B, size_of, some_trees
 from test_questions import PAIR, PLAIN, some_base, some_question
 
 
@@ -113,7 +112,7 @@ class Forms(Case):
         tree = ("all", "p")
         for at, word in enumerate("qrs"):
             tree = ("boxes", "left", ("sort", tree, question[1][at][0]), ("sort", ("all", word), question[1][at][1]))
-        while len(str(tree).split("(\'")) < 45 and tree[0] != "none":
+        while size_of(tree) < 30:
             tree = ("sort", tree, question[1][0][0])
         self.check(base, question, tree)
 

@@ -12,7 +12,7 @@ from anyprice.wholeplans import best_whole, whole_front
 from anyprice.wholes import is_whole, whole_amount
 from helpers import EXAMPLE, NO_INTEGERS, NO_LISTS, NO_NUMBERS, NO_PRICES, Case, chance_of, is_at_most, product, some_function, spoil, swapped
 from machinery import M, num, var
-from test_questions import AK, PAIR, PLAIN, some_base
+from test_questions import PAIR, PLAIN, some_base
 from test_tested import NO_TESTED, OVER, TESTED, UNDER
 from wholeways import SMALL, some_tested
 
@@ -363,7 +363,6 @@ class Houses(Case):
         self.tells([(0, 0, 0)], house.front_now, "one")
         house.put_row("a", (4,))
         self.tells(best_whole(house.base_now(), house.watched()["one"], M, 1, (1, 1, 1)), house.whole_now, "one", (1, 1, 1))
-        self.assertEqual(AK, ("a", "k"))
 
 
 if __name__ == "__main__":

@@ -5,7 +5,7 @@ import unittest
 from anyprice.machines import Machine
 from anyprice.refusals import BadInstruction, NoInstruction
 from helpers import EXAMPLE, NO_INTEGERS, NO_LISTS, Case, chance_of, some_function, spoil, swapped
-from machinery import M, PLAIN_ROWS, num, some_machine
+from machinery import M, PLAIN_ROWS, some_machine
 
 GOOD = ("ld", "reg", "mem", (2, 2))
 NO_PATTERNS = [
@@ -104,7 +104,6 @@ class Machines(Case):
             self.tells(all(row[1:] in known for row in PLAIN_ROWS), machine.is_plain)
             spoil(machine.instructions())
             self.assertEqual(machine.instructions(), rows)
-        self.assertEqual(num(1), ("num", 1))
 
 
 if __name__ == "__main__":

@@ -12,8 +12,8 @@ from anyprice.treeruns import run_tree
 from helpers import NO_AMOUNTS, NO_LISTS, NO_PRICES, Case, chance_of, is_at_most, product, some_function
 from operatorways import (OTHER_COLUMNS, OTHER_NAMES, OTHER_WORDS, has_needless_sorts, is_a_tree_of, plain_question_front, renamed, renamed_tree,
                           some_big_question)
-from test_operators import A, B, INDEXED
-from test_questions import AK, FOUR, PAIR, PICKED, PLAIN, some_base, some_question
+from test_operators import A, INDEXED
+from test_questions import FOUR, PAIR, PICKED, PLAIN, some_base, some_question
 
 
 class QuestionFronts(Case):

@@ -7,6 +7,7 @@ import unittest
 from anyprice.bases import Base
 from anyprice.basetexts import read_base, read_tested, write_base, write_tested
 from anyprice.coderuns import run_rows
+from anyprice.coding import code_for
 from anyprice.costs import best_amounts, best_plan, least_cost
 from anyprice.errors import PlanError
 from anyprice.fronts import front
@@ -153,7 +154,6 @@ class Throughout(Case):
 
     def test_runs_of_code_count_what_plans_tell(self):
         for amount in front(tree_program(M, T), "r0."):
-            from anyprice.coding import code_for
             self.assertEqual(run_rows(M, code_for(M, T, amount), {"a": 1, "b": 2, "c": 3})[1], amount)
 
 

@@ -11,7 +11,7 @@ from anyprice.treeruns import run_tree
 from helpers import NO_LISTS, Case, chance_of, is_at_most
 from operatorways import as_rows, is_a_tree_of, plain_order
 from test_operators import A, B, INDEXED, KINDS, MODES, SORTED_A, SORTED_B, size_of, some_trees
-from test_questions import AK, BK, FOUR, PAIR, PICKED, PLAIN, some_base, some_question
+from test_questions import AK, FOUR, PAIR, PICKED, PLAIN, some_base, some_question
 
 
 class Runs(Case):

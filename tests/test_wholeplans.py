@@ -16,7 +16,7 @@ from helpers import NO_AMOUNTS, NO_LISTS, NO_NUMBERS, NO_PRICES, Case, chance_of
 from machinery import M, num, sized, var
 from operatorways import OTHER_COLUMNS, OTHER_NAMES, OTHER_WORDS, renamed, some_big_question
 from test_questions import AK, FOUR, PAIR, PLAIN, some_base
-from test_tested import NO_TESTED, OVER, TESTED, UNDER
+from test_tested import NO_TESTED, TESTED, UNDER
 from wholeways import QUICK, SMALL, plain_whole_front, some_tested, some_whole
 
 CALLS = (whole_front, whole_program)
@@ -173,7 +173,6 @@ class BestWholes(Case):
             amounts = whole_front(base, (question, tests), plain, 3)
             whole = whole_with(base, (question, tests), plain, 3, amounts[0])
             self.assertEqual(run_whole(base, (question, tests), plain, 3, whole)[1], amounts[0])
-        self.assertEqual(OVER[0], "sub")
 
 
 if __name__ == "__main__":

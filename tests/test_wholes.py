@@ -14,7 +14,7 @@ from anyprice.wholeruns import run_whole
 from anyprice.wholes import is_whole, whole_amount
 from helpers import NO_LISTS, NO_NUMBERS, Case, chance_of, swapped
 from machinery import M, num, var
-from test_operators import A, B, SORTED_A, group_with
+from test_operators import A, B, SORTED_A
 from test_questions import AK, BK, FOUR, PAIR, PLAIN, some_base
 from test_tested import NO_TESTED, OVER, TESTED, UNDER
 from wholeways import QUICK, SMALL, counted_by, look, some_tested, some_whole, tests_in, weigh
@@ -156,7 +156,6 @@ class Wholes(Case):
         amounts = front(tree_program(M, UNDER), "r0.")
         self.assertEqual(amounts, [(4, 5, 2)])
         self.assertEqual(code_for(M, UNDER, (4, 5, 2)), UNDER_CODE)
-        self.assertEqual(len(group_with(PAIR, PLAIN, {"a", "b"}, AK)), 2)
         tested = (PLAIN, [("a", var("k"))])
         tree = ("boxes", "left", ("tested", A, 0), B)
         self.tells(True, is_whole, PAIR, tested, M, 1, (tree, {0: [("ld", 900, ("k",))]}))

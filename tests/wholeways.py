@@ -2,7 +2,6 @@
 
 from itertools import combinations, product as all_of
 
-from anyprice.bases import Base
 from anyprice.coderuns import run_rows
 from anyprice.coding import code_for
 from anyprice.fronts import front
@@ -269,6 +268,3 @@ def counted_by(machine, whole, values):
     """What the codes of a whole count: the dict from tests to (cycles, bytes)."""
     return {number: run_rows(machine, code, values)[1][:2] for number, code in whole[1].items()}
 
-
-def bare_base(rows, more):
-    return Base({"a": (["k"], rows, ["k"]), "b": (["k", "n"], more, [])})
