@@ -32,7 +32,7 @@ class Reach:
             else:
                 holds = self.fitting(pattern, tree, one, other)
                 if holds is not None and target == "mem":
-                    stored = stored or self.is_enough(holds)
+                    stored = stored or self.held(holds) >= 0
                 elif holds is not None:
                     hold = max(hold, self.held(holds))
         stored = stored or (stores and hold >= 0)
@@ -63,17 +63,14 @@ class Reach:
         return known[self.inner[pattern]]
 
     def held(self, holds):
-        """How many registers can be held at most while an instruction with these leaves puts its result into one."""
+        """How many registers can be held at most while an instruction with these leaves puts its result into one.
+
+        It can put it into memory where this is not below 0: within no registers none of this matters.
+        """
         if self.most is None:
             return 0
         needed = max(1, len(holds))
         return max(-1, min([self.most - needed] + [hold - at for at, hold in enumerate(holds)]))
-
-    def is_enough(self, holds):
-        """Whether an instruction with these leaves can put its result into memory."""
-        if self.most is None or not holds:
-            return True
-        return self.held(holds) >= 0
 
 
 def bare_tree(machine):

@@ -132,10 +132,12 @@ def tree_in(words):
         else:
             tree = leaf_in(words[at:at + 2])
             at += 2
-            while tree is not None and waiting and len(waiting[-1]) == 2:
+            if tree is None:
+                return None
+            while waiting and len(waiting[-1]) == 2:
                 word, one = waiting.pop()
                 tree = (word, one, tree)
-            if tree is None or not waiting:
+            if not waiting:
                 return tree if at == len(words) else None
             waiting[-1].append(tree)
     return None
@@ -164,8 +166,6 @@ class TestedLines:
             return False
         if words[0] == "by" and self.last != "show":
             return False
-        if words[0] != "from" and not self.found["from"]:
-            return False
         taken = self.line_of(words[0], words[1:])
         if taken is None:
             return False
@@ -184,7 +184,7 @@ class TestedLines:
         asked = self.asked_so_far()
         if kind == "test":
             test = (told[0], tree_in(told[1:])) if told else None
-            return test if test is not None and test[1] is not None and is_test(asked, test) else None
+            return test if is_test(asked, test) else None
         if kind == "pick":
             return self.pick_of(asked, told)
         columns = [tuple(word.split(".")) for word in told]

@@ -61,13 +61,15 @@ def code_by(machine, tree, pairs, plan):
     """The code that a plan tells, a plan of the rules of pairs (rule, meaning)."""
     instructions = machine.instructions()
     numbers = numbers_by_path(tree)
+    words = {}
     nodes = []
     for number, below in plan:
         rule, meaning = pairs[number]
         if meaning[0] == "var":
-            nodes.append(meaning)
+            words[len(nodes)] = meaning[1]
+            nodes.append(None)
         else:
-            nodes.append(node_of(instructions[meaning[0]], rule[0], meaning, below, nodes, numbers))
+            nodes.append(node_of(instructions[meaning[0]], rule[0], meaning, below, words, numbers))
     return Layout(nodes).put_all(len(nodes) - 1)
 
 
@@ -77,8 +79,11 @@ def numbers_by_path(tree):
     return {path: nodes[path][1] for path in nodes if nodes[path][0] == "num"}
 
 
-def node_of(instruction, head, meaning, below, nodes, numbers):
-    """The node of a row of a plan: operands in memory come first below it, then those in registers as they are made."""
+def node_of(instruction, head, meaning, below, words, numbers):
+    """The node of a row of a plan: operands in memory come first below it, then those in registers as they are made.
+
+    Words are those of variables, by the numbers of their rows, numbers those of the tree, by their paths.
+    """
     word, place, _, _ = instruction
     _, leaves, order = meaning
     path = head[1:] if place == "mem" else head[head.index(".") + 1:]
@@ -91,6 +96,5 @@ def node_of(instruction, head, meaning, below, nodes, numbers):
         if leaf == "num":
             operands.append((leaf, numbers[path + inner]))
         else:
-            row = rows[at]
-            operands.append((leaf, nodes[row][1] if nodes[row][0] == "var" and leaf == "mem" else row))
+            operands.append((leaf, words.get(rows[at], rows[at])))
     return word, place, operands, [kept[at] for at in order]

@@ -9,7 +9,7 @@ from anyprice.unders import least_of
 
 def form_front(base, question, tree):
     """The ascending list of the amounts of the trees of the tree's form that none is under."""
-    return sorted(formed_by(asked_of(base, question), tree))
+    return list(formed_by(asked_of(base, question), tree))
 
 
 def with_modes(base, question, tree, amount):
@@ -19,7 +19,7 @@ def with_modes(base, question, tree, amount):
 
 
 def formed_by(asked, tree):
-    """The dict from the form's front to trees; BadTree for any object that is none."""
+    """The ascending dict from the form's front to trees; BadTree for any object that is none."""
     checked_operators(asked, tree)
     return best_modes(asked, tree)[1]
 

@@ -40,7 +40,7 @@ class Machine:
 
     def without(self, word):
         """The machine without the instruction of this word."""
-        if not is_word(word) or word not in [row[0] for row in self._instructions]:
+        if word not in [row[0] for row in self._instructions]:
             raise NoInstruction(word)
         return Machine([row for row in self._instructions if row[0] != word])
 

@@ -15,11 +15,11 @@ NOUGHTS = (0, 0, 0)
 TURNED = {"left": "right", "right": "left", "beside": "beside"}
 
 
-def all_sets(asked):
-    """The list of all sets of sources, each behind those that are in it."""
+def sets_in(words):
+    """The list of all sets of some of the words, each behind those that are in it."""
     sets = [()]
-    for word in asked.whole_set():
-        sets = sets + [words + (word,) for words in sets]
+    for word in words:
+        sets = sets + [known + (word,) for known in sets]
     return sets[1:]
 
 
@@ -70,7 +70,7 @@ def own_row(asked, tree, states):
 def operator_entries(asked):
     """The entries of all operators of a question, codes of tests aside."""
     entries = []
-    for words in all_sets(asked):
+    for words in sets_in(asked.whole_set()):
         entries.extend(read_entries(asked, words))
         for done in all_done(asked, words):
             entries.extend(order_entries(asked, words, done))
@@ -81,13 +81,9 @@ def operator_entries(asked):
 
 
 def entry(asked, thing, below, tree, meaning):
-    """The entry of an operator over things, none, one or a pair of two."""
+    """The entry of an operator over a thing, or over none."""
     parts = [(part, 1, NOUGHTS) for part in below]
-    states = [(part[0], part[1]) for part in below if len(part) == 3]
-    for pair in below:
-        if len(pair) == 2:
-            states = [(part[0], part[1]) for part in pair]
-    return thing, parts, own_row(asked, tree, states), ADDED, meaning
+    return thing, parts, own_row(asked, tree, [(part[0], part[1]) for part in below]), ADDED, meaning
 
 
 def read_entries(asked, words):
@@ -178,8 +174,8 @@ def pair_entries(asked, words, done):
     """Those of two parts of a set, the one with its first source ahead: how both are made, and what takes them."""
     found = []
     made = {}
-    for inner in all_sets(asked):
-        if words[0] in inner and len(inner) < len(words) and all([word in words for word in inner]):
+    for inner in sets_in(words):
+        if words[0] in inner and inner != words:
             rest = tuple([word for word in words if word not in inner])
             one = (inner, tuple([number for number in done if asked.tests[number][0] in inner]))
             other = (rest, tuple([number for number in done if number not in one[1]]))

@@ -44,10 +44,9 @@ class ProgramLines:
 
     def take_head(self, words):
         """A line that begins a rule: its head, and for each resource how, and its own number."""
-        own = numbers_of_words(words[2::2])
-        if own is None or len(words) != 1 + 2 * len(self.sorts):
+        if len(words) != 1 + 2 * len(self.sorts):
             return False
-        return self.take_rule_of((words[0], [], own, words[1::2]), self.rules)
+        return self.take_rule_of((words[0], [], numbers_of_words(words[2::2]), words[1::2]), self.rules)
 
     def take_part(self, words):
         """A line of a part of the last rule."""

@@ -4,7 +4,7 @@ from anyprice.errors import BadPlan
 from anyprice.looks import is_of_the_question, looked_at
 from anyprice.operatorplans import OperatorPlans
 from anyprice.operatorrules import operator_entries
-from anyprice.plans import is_plan, plan_thing
+from anyprice.plans import plan_thing
 from anyprice.questions import asked_of
 from anyprice.refusals import BadTree
 
@@ -33,6 +33,6 @@ def plan_of_tree(base, question, tree):
 def tree_of_plan(base, question, plan):
     """The tree that a plan of the thing tells."""
     plans = plans_of(asked_of(base, question))
-    if not is_plan(plans.program, plan) or plan_thing(plans.program, plan) != plans.goal:
+    if plan_thing(plans.program, plan) != plans.goal:
         raise BadPlan(plan)
     return plans.tree_by(plan)

@@ -52,6 +52,27 @@ class AllTrees(Case):
         self.tells(None, over_tree, machine, 1)
         self.tells(("mul", num(0), num(0)), bare_tree, machine)
 
+    def test_memory(self):
+        rows = [("ld", "reg", "mem", (1, 1)), ("li", "reg", "num", (1, 1)), ("add", "reg", ("add", "reg", "reg"), (1, 1))]
+        for further, most, tree in (
+            ((), 1, full(1)), ((), 2, full(2)),
+            # What is added can be put into memory, by two registers, or by one.
+            ((("sa", "mem", ("add", "reg", "reg"), (1, 1)),), 1, full(1)), ((("sa", "mem", ("add", "reg", "reg"), (1, 1)),), 2, None),
+            ((("sa", "mem", ("add", "reg", "num"), (1, 1)),), 1, ("add", num(0), var("x"))),
+            ((("sa", "mem", ("add", "mem", "mem"), (1, 1)), ("si", "mem", "num", (1, 1))), 1, None),
+            ((("st", "mem", "reg", (1, 1)),), 1, full(1)), ((("st", "mem", "reg", (1, 1)),), 2, None),
+            # A move is no store, a copy no load, and neither undoes what another instruction does.
+            ((("mv", "reg", "reg", (0, 0)),), 2, full(2)), ((("mv", "reg", "reg", (0, 0)), ("st", "mem", "reg", (1, 1)), ("mw", "reg", "reg", (0, 0))), 2, None),
+            ((("cp", "mem", "mem", (0, 0)),), 2, full(2)), ((("cp", "mem", "mem", (0, 0)), ("st", "mem", "reg", (1, 1))), 2, None),
+        ):
+            for machine in (Machine(rows + list(further)), Machine(list(further) + rows), Machine(rows[1:] + list(further) + rows[:1])):
+                self.tells(tree, over_tree, machine, most)
+                self.tells(("mul", num(0), num(0)), bare_tree, machine)
+        copies = Machine([("cp", "mem", "mem", (0, 0)), ("li", "reg", "num", (1, 1)), ("st", "mem", "reg", (1, 1))])
+        self.tells(var("x"), bare_tree, copies)
+        moves = Machine([("mv", "reg", "reg", (0, 0)), ("ld", "reg", "mem", (1, 1)), ("am", "reg", ("add", "mem", "mem"), (1, 1)), ("li", "reg", "num", (1, 1))])
+        self.tells(("add", num(0), num(0)), bare_tree, moves)
+
     def test_numbers_in_patterns(self):
         machine = Machine([("a", "reg", ("num", 0), (1, 1)), ("b", "reg", ("num", 1), (1, 1)), ("ld", "reg", "mem", (1, 1))])
         self.tells(num(2), bare_tree, machine)

@@ -193,7 +193,7 @@ class TestedTexts(Case):
             (one + "join a.k b.k\njoin a.k b.k\n", 4), (one + "join a.k b.k\nfrom c a\n", 4), (one + "pick a.k 1\njoin a.k b.k\n", 4), (one + "join\n", 3),
             (one + "pick a.k\n", 3), (one + "pick a.k 01\n", 3), (one + "pick a.k -0\n", 3), (one + "pick a.k 1 1\n", 3), (one + "pick a.n 1\n", 3),
             (one + "pick a.k 1\npick a.k 1\n", 4), (one + "pick a.k 1\npick a.k 2\n", 5), (one + "test\n", 3), (one + "test a\n", 3), (one + "test c num 1\n", 3),
-            (one + "test a num\n", 3), (one + "test a num 1 num 2\n", 3), (one + "test a add num 1\n", 3), (one + "test a add num 1 num 2 num 3\n", 3), (one + "test a var n\n", 3),
+            (one + "test a num\n", 3), (one + "test a var\n", 3), (one + "test a var K\n", 3), (one + "test a add num 1 var\n", 3), (one + "test a num 1 num 2\n", 3), (one + "test a add num 1\n", 3), (one + "test a add num 1 num 2 num 3\n", 3), (one + "test a var n\n", 3),
             (one + "test a div num 1 num 2\n", 3), (one + "test a num 01\n", 3), (one + "test a num k\n", 3), (one + "test a var 1\n", 3), (one + "test a num 1\npick a.k 1\n", 4),
             (one + "test a add\n", 3), (one + "test a num 1\ntest a num 1\n", 5), (one + "test a num 1", 3), (TESTED_TEXT + "\n", 9), (TESTED_TEXT[:-1], 8), (one, 3),
             (one + "test a  num 1\n", 3), (one + "test a num 1 \n", 3), (one + "show a.k \n", 3), (one + "Show a.k\n", 3), (one + "show a.k b.k .k\n", 3),

@@ -118,6 +118,27 @@ class Code(Case):
         self.assertEqual(level(program, "r0.", (1,)), [])
         self.assertEqual(level(program, "r0.", (3,)), [(10, 8)])
 
+    def test_names_are_only_names(self):
+        chance = chance_of(186)
+        words = ["var", "num", "reg", "mem", "add", "sub", "mul", "code", "st", "ld", "m", "r"]
+        names = {"a": "var", "b": "num", "c": "mem"}
+
+        def turned(tree):
+            if len(tree) == 2:
+                return var(names[tree[1]]) if tree[0] == "var" else tree
+            return (tree[0], turned(tree[1]), turned(tree[2]))
+
+        for _ in range(60):
+            machine = some_machine(chance, 4)
+            called = dict(zip([row[0] for row in machine.instructions()], chance.sample(words, 10)))
+            other = Machine([(called[row[0]],) + row[1:] for row in machine.instructions()])
+            tree = some_number_tree(chance, chance.randrange(1, 10, 2))
+            for amount in front(tree_program(machine, tree), "r0."):
+                rows = [(called[word], target, tuple(names.get(operand, operand) for operand in operands))
+                        for word, target, operands in code_for(machine, tree, amount)]
+                self.assertEqual(code_for(other, turned(tree), amount), rows)
+                self.assertTrue(is_code(other, turned(tree), rows))
+
     def test_variables_that_are_stored(self):
         machine = Machine([("ld", "reg", "mem", (1, 1)), ("st", "mem", "reg", (1, 1)), ("am", "mem", ("add", "mem", "mem"), (1, 1)),
                            ("mi", "mem", "num", (1, 1)), ("mm", "mem", ("mul", "reg", "mem"), (1, 1))])

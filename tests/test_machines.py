@@ -10,7 +10,7 @@ from machinery import M, PLAIN_ROWS, some_machine
 GOOD = ("ld", "reg", "mem", (2, 2))
 NO_PATTERNS = [
     None, True, 0, "", "Reg", "var", "add", [], (), ["reg"], ("reg",), ("num",), ("num", True), ("num", None), ("num", "1"), ("num", 1, 2), ("var", "x"),
-    ("reg", 1), ("add",), ("add", "reg"), ("add", "reg", "reg", "reg"), ("div", "reg", "reg"), ("add", "reg", None), ("add", "reg", ("num", False)),
+    ("reg", 1), ("add",), ("add", "reg"), ("add", "reg", "reg", "reg"), ("div", "reg", "reg"), ("add", "reg", None), ("add", None, "reg"), ("mul", ("num", True), "reg"), ("add", "reg", ("num", False)),
     ("add", ("add", "reg", "mem"), ("mul", "reg", ("sub", "reg", "x"))), {}, {"reg": 1}, some_function, EXAMPLE, (some_function, "reg", "reg"),
 ]
 NO_INSTRUCTIONS = NO_LISTS + [[], (), GOOD[:3], GOOD + (1,), "ldrm", [None] * 4]

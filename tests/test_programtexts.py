@@ -61,7 +61,7 @@ class ProgramTexts(Case):
 
     def test_wrong_lines(self):
         for text, line in (
-            ("", 1), ("\n", 1), ("sorts\n", 1), ("sorts flat", 1), ("sorts flat\n\n", 2), (" sorts flat\n", 1), ("sorts flat \n", 1), ("sorts  flat\n", 1),
+            ("", 1), ("\n", 1), ("sorts\n", 1), ("sorts flat", 1), ("sorts flat\nrule\n", 2), ("sorts flat\nrule a times 1\npart\n", 3), ("sorts flat\n\n", 2), (" sorts flat\n", 1), ("sorts flat \n", 1), ("sorts  flat\n", 1),
             ("sorts flat flat flat flat\n", 1), ("sorts Flat\n", 1), ("rule a times 1\n", 1), ("sorts flat\nsorts flat\n", 2), ("sorts flat\npart a 1 0\n", 2),
             ("sorts flat\nrule a times 1", 2), ("sorts flat\nrule a times 01\n", 2), ("sorts flat\nrule a times -0\n", 2), ("sorts flat\nrule a times -1\n", 2),
             ("sorts flat\nrule a most 1\n", 2), ("sorts flat\nrule a times\n", 2), ("sorts flat\nrule a times 1 times 1\n", 2), ("sorts flat\nrule A times 1\n", 2),

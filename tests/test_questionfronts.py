@@ -87,6 +87,18 @@ class QuestionFronts(Case):
             question = some_question(chance, base, chance.choice([1, 2, 3]))
             self.check(base, question, question_front(base, question))
 
+    def test_a_sort_behind_what_was_in_order(self):
+        # A merge is in order, and has no row more with the empty table beside it: so a sort would cost nothing.
+        table = (["k"], [(number,) for number in range(30)], ["k"])
+        base = Base({"t": table, "e": (["m"], [], [])})
+        for words in ("pqr", "rpq", "prq"):
+            names = {"p": "t", "q": "t", "r": "e"}
+            for by in (("p", "k"), ("q", "k")):
+                question = ([(word, names[word]) for word in words], [(("p", "k"), ("q", "k"))], [], [("p", "k")], by)
+                amounts = question_front(base, question)
+                self.assertEqual(amounts, plain_question_front(base, question))
+                self.check(base, question, amounts)
+
     def test_the_closed_question_is_never_dearer(self):
         self.tells([(9, 5, 3)], question_front, PAIR, closed_question(PAIR, PICKED))
         chance = chance_of(167)

@@ -12,6 +12,7 @@ NO_TREES = NO_LISTS + [
     ("var", "A"), ("var", "abcdefghi"), ("var", "a1"), ("var", "a b"), ("var", None), ("var", ["a"]), ("var", "a", "b"), ("Num", 1),
     ("add", num(1)), ("add", num(1), num(2), num(3)), ("add", 1, 2), ("div", num(1), num(2)), ("neg", num(1)), ("add", num(1), None),
     ("add", num(1), ("num", False)), ("add", num(1), ()), ("add", "num", "num"), (["num"], 1), (num(1),), [num(1), num(2)], "num", "add",
+    ("add", None, num(1)), ("mul", ("num", True), T), ("sub", ("var", 1), num(1)), ("reg", "a"), ("x", "y"), ("num", "x"),
     {"num": 1}, ("add", T, ("mul", T, ("sub", T, ("var", "")))), (some_function, 1), (EXAMPLE, 1), (None, 1, 2), ("reg", 1), ("sub", "reg", "reg"),
 ]
 

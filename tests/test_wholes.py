@@ -52,13 +52,18 @@ class Wholes(Case):
     def test_codes_that_are_none(self):
         for codes in NO_LISTS + [
             [], (), {0: OVER_CODE, 1: UNDER_CODE}, {**CODES, 3: OVER_CODE}, {**CODES, "0": OVER_CODE}, {0: OVER_CODE, True: UNDER_CODE, 2: UNDER_CODE},
-            {False: OVER_CODE, 1: UNDER_CODE, 2: UNDER_CODE}, {0: UNDER_CODE, 1: UNDER_CODE, 2: UNDER_CODE}, {**CODES, 2: None}, {**CODES, 2: []}, {**CODES, 1: {}},
+            {False: OVER_CODE, 1: UNDER_CODE, 2: UNDER_CODE}, {0: UNDER_CODE, 1: UNDER_CODE, 2: UNDER_CODE}, {0: OVER_CODE, 1: UNDER_CODE, 3: UNDER_CODE}, {0: OVER_CODE, 1: UNDER_CODE, -1: UNDER_CODE}, {**CODES, 2: None}, {**CODES, 2: []}, {**CODES, 1: {}},
             {**CODES, 0: OVER_CODE[:-1]}, {**CODES, 0: [("ld", 0, ("k",)), ("li", 1, (2,)), ("sub", 0, (1, 0))]}, {**CODES, None: OVER_CODE},
             {**CODES, 0: [("ld", 0, ("k",)), ("li", 5, (2,)), ("sub", 7, (0, 5))]}, [OVER_CODE, UNDER_CODE, UNDER_CODE], {0: OVER_CODE, 1: UNDER_CODE, 2.0: UNDER_CODE},
         ]:
             self.tells(False, is_whole, PAIR, TESTED, M, 2, (TREE, codes))
             whole = [TREE, codes]
             self.refuses(BadWhole, "whole", whole, run_whole, PAIR, TESTED, M, 2, whole)
+        # Trees that lack a test, or have one twice, with just the codes of those that they have.
+        lacking = ("boxes", "left", ("tested", A, 0), ("tested", B, 1))
+        twice = ("boxes", "left", ("tested", ("tested", A, 0), 0), ("tested", B, 1))
+        for tree in (lacking, twice):
+            self.tells(False, is_whole, PAIR, TESTED, M, 2, (tree, {0: OVER_CODE, 1: UNDER_CODE}))
         # Three registers are one too many for two, not for three.
         wide = {**CODES, 0: [("ld", 0, ("k",)), ("li", 5, (2,)), ("sub", 7, (0, 5))]}
         self.tells(True, is_whole, PAIR, TESTED, M, 3, (TREE, wide))
@@ -86,6 +91,7 @@ class Wholes(Case):
         self.tells(True, is_whole, PAIR, tested, M, 2, (tree, codes))
         self.tells(False, is_whole, PAIR, tested, M, 2, (tree, {**codes, 1: OVER_CODE}))
         self.tells(False, is_whole, PAIR, tested, M, 2, (tree, {2: UNDER_CODE}))
+        self.tells(False, is_whole, PAIR, tested, M, 2, (tree, {1: OVER_CODE, 2: UNDER_CODE}))
         # 4 + 4 * (1 + 1); 0; 4 + 4 * (1 + 4), and 0 + 3 + 0.
         self.tells((4 + 8 + 0 + 24 + 3, 2 + 5, 7), whole_amount, PAIR, tested, M, 2, (tree, codes))
         self.tells(([], (39, 7, 7)), run_whole, PAIR, tested, M, 2, (tree, codes))
