@@ -4,15 +4,16 @@ import unittest
 
 from anyprice.bases import Base
 from anyprice.errors import BadAmount, BadBudget, BadPrices
-from anyprice.operators import is_operator_tree, tree_amount
-from anyprice.questionfronts import best_tree, question_front, tree_with
+from anyprice.operators import is_operator_tree, tree_amount, tree_order, tree_set
+from anyprice.questionfronts import best_tree, question_front, tree_with, with_fewer_sorts
+from anyprice.questions import asked_of
 from anyprice.refusals import BadQuestion
 from anyprice.ties import closed_question
 from anyprice.treeruns import run_tree
 from helpers import NO_AMOUNTS, NO_LISTS, NO_PRICES, Case, chance_of, is_at_most, product, some_function
 from operatorways import (OTHER_COLUMNS, OTHER_NAMES, OTHER_WORDS, has_needless_sorts, is_a_tree_of, plain_question_front, renamed, renamed_tree,
                           some_big_question)
-from test_operators import A, INDEXED
+from test_operators import A, INDEXED, some_trees
 from test_questions import FOUR, PAIR, PICKED, PLAIN, some_base, some_question
 
 
@@ -86,6 +87,26 @@ class QuestionFronts(Case):
             base = some_base(chance, 2, .7)
             question = some_question(chance, base, chance.choice([1, 2, 3]))
             self.check(base, question, question_front(base, question))
+
+    def test_sorts_are_left_out_wherever_they_stand(self):
+        chance = chance_of(171)
+        turned = 0
+        for _ in range(150):
+            base = some_base(chance, 4)
+            question = some_question(chance, base, chance.choice([1, 2, 2, 3]))
+            trees = some_trees(chance, base, question, 14)
+            tree = trees[-1]
+            for column in [column for join in question[1] for column in join if column[0] in tree_set(base, question, tree)][:2]:
+                tree = ("sort", ("sort", tree, column), column)
+            lean = with_fewer_sorts(asked_of(base, question), tree)
+            self.assertFalse(has_needless_sorts(base, question, lean))
+            turned += has_needless_sorts(base, question, tree)
+            if not has_needless_sorts(base, question, tree):
+                self.assertEqual(lean, tree)
+            self.assertEqual(tree_set(base, question, lean), tree_set(base, question, tree))
+            self.assertEqual(tree_order(base, question, lean), tree_order(base, question, tree))
+            self.assertTrue(is_at_most(tree_amount(base, question, lean), tree_amount(base, question, tree)))
+        self.assertTrue(30 < turned < 140)
 
     def test_a_sort_behind_what_was_in_order(self):
         # A merge is in order, and has no row more with the empty table beside it: so a sort would cost nothing.
