@@ -131,18 +131,25 @@ def kept_orders(asked, inner, words):
     return pairs
 
 
-def step_entries(asked, words, done):
-    """Those that step from a set to one more source, no test of which is done."""
+def steps_to(asked, words, done):
+    """The list of the pairs (number of a join, set) from which one steps to the one source that the set lacks."""
     found = []
+    fresh = [word for word in words if word not in [asked.tests[number][0] for number in done]]
     for number, join in enumerate(asked.joins):
         for outer in join:
             inner = tuple([word for word in words if word != outer[0]])
-            if outer[0] in words and sides_of_join(join, inner)[0] is not None and asked.is_indexed(outer):
-                if not any([asked.tests[test][0] == outer[0] for test in done]):
-                    for order, greater in kept_orders(asked, inner, words):
-                        below = [(inner, done, order)]
-                        tree = ("step", None, number)
-                        found.append(entry(asked, (words, done, greater), below, tree, ("step", number)))
+            if outer[0] in fresh and asked.is_indexed(outer) and sides_of_join(join, inner)[0] is not None:
+                found.append((number, inner))
+    return found
+
+
+def step_entries(asked, words, done):
+    """Those that step from a set to one more source, no test of which is done."""
+    found = []
+    for number, inner in steps_to(asked, words, done):
+        for order, greater in kept_orders(asked, inner, words):
+            below = [(inner, done, order)]
+            found.append(entry(asked, (words, done, greater), below, ("step", None, number), ("step", number)))
     return found
 
 
@@ -170,24 +177,30 @@ def code_entries(number, amounts):
     ]
 
 
-def pair_entries(asked, words, done):
-    """Those of two parts of a set, the one with its first source ahead: how both are made, and what takes them."""
+def halves_of(asked, words, done):
+    """The list of the pairs of states that are a state together, the one with its first source ahead."""
     found = []
-    made = {}
     for inner in sets_in(words):
         if words[0] in inner and inner != words:
             rest = tuple([word for word in words if word not in inner])
-            one = (inner, tuple([number for number in done if asked.tests[number][0] in inner]))
-            other = (rest, tuple([number for number in done if number not in one[1]]))
-            for turned in (False, True):
-                ahead, behind = (other, one) if turned else (one, other)
-                for thing, pair, tree, meaning in taking_both(asked, words, done, ahead, behind, turned):
-                    if pair not in made:
-                        made[pair] = True
-                        found.extend(mode_entries(asked, pair))
-                    states = (pair[1], pair[0]) if turned else pair
-                    own = own_row(asked, tree, [(part[0], part[1]) for part in states])
-                    found.append((thing, [(pair, 1, NOUGHTS)], own, ADDED, meaning))
+            ahead = tuple([number for number in done if asked.tests[number][0] in inner])
+            behind = tuple([number for number in done if number not in ahead])
+            found.append(((inner, ahead), (rest, behind)))
+    return found
+
+
+def pair_entries(asked, words, done):
+    """Those of two parts of a set: how both are made, and what takes them."""
+    found = []
+    made = {}
+    for one, other in halves_of(asked, words, done):
+        told = taking_both(asked, words, done, one, other, False) + taking_both(asked, words, done, other, one, True)
+        for thing, pair, tree, meaning in told:
+            if pair not in made:
+                made[pair] = True
+                found.extend(mode_entries(asked, pair))
+            states = (other, one) if meaning[1] else (one, other)
+            found.append((thing, [(pair, 1, NOUGHTS)], own_row(asked, tree, states), ADDED, meaning))
     return found
 
 
