@@ -134,7 +134,8 @@ def kept_orders(asked, inner, words):
 def steps_to(asked, words, done):
     """The list of the pairs (number of a join, set) from which one steps to the one source that the set lacks."""
     found = []
-    fresh = [word for word in words if word not in [asked.tests[number][0] for number in done]]
+    known = [asked.tests[test][0] for test in done]
+    fresh = [word for word in words if word not in known]
     for number, join in enumerate(asked.joins):
         for outer in join:
             inner = tuple([word for word in words if word != outer[0]])

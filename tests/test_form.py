@@ -357,6 +357,16 @@ class Language(unittest.TestCase):
                     for inner in ast.walk(outer):
                         if isinstance(inner, kinds) and inner is not outer:
                             self.assertFalse(self.names_of(inner) & taken, f"{path} {inner.lineno}")
+            for function in functions_in(tree):
+                told = [node for node in ast.walk(function) if isinstance(node, kinds)]
+                within = {id(node) for inner in told for node in ast.walk(inner)}
+                taken = {node.id for node in ast.walk(function)
+                         if isinstance(node, ast.Name) and isinstance(node.ctx, ast.Store) and id(node) not in within}
+                taken |= {argument.arg for argument in function.args.args}
+                for outer in told:
+                    for inner in ast.walk(outer):
+                        if isinstance(inner, kinds) and inner is not outer:
+                            self.assertFalse(self.names_of(inner) & taken, f"{path} {inner.lineno}")
 
     def names_of(self, comprehension):
         return {node.id for part in comprehension.generators for node in ast.walk(part.target) if isinstance(node, ast.Name)} - {"_"}
